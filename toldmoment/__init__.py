@@ -1,0 +1,1 @@
+"""Toldmoment: tables that are made of a source's tables, each at one told moment."""
