@@ -1,4 +1,4 @@
-"""The document's examples of sections 4 and 5, as they stand there, and what is told in parentheses beneath them.
+"""The document's examples of sections 4 to 8, as they stand there, and what is told in parentheses beneath them.
 
 Section 4:
 
@@ -40,12 +40,77 @@ Section 5:
 [('cats', ((5, ('tim', 4)),)), True]
 >>> [fits(schema, state), fits(schema, empty[:1]), fits(schema, (('cats', ((5, ('tom', 'x')),)), ('dogs', ())))]
 [True, False, False]
+
+Section 6:
+
+>>> from toldmoment.maps import back, forward, rows_back, rows_forward, undoes
+>>> schema = (('goods', (('name', 'text'), ('price', 'int'))),)
+>>> state = (('goods', ((1, ('ham-egg', 5)), (2, (None, None)), (7, ('tea', 3)))),)
+>>> split = ('split', 'goods', 'name', 'dish', 'side', '-')
+>>> forward(schema, split, state)
+(('goods', ((1, ('ham', 'egg', 5)), (2, (None, None, None)), (7, ('tea', None, 3)))),)
+>>> [back(schema, split, forward(schema, split, state)) == state, back(schema, split, (('goods', ((1, (None, 'x', 0)),)),))]
+[True, (('goods', ((1, ('-x', 0)),)),)]
+>>> dear = ('turn', 'goods', 'price', 'text', None, 0)
+>>> [forward(schema, dear, state)[0][1][0], back(schema, dear, (('goods', ((1, ('ham', '05')), (2, ('egg', '12')))),))]
+[(1, ('ham-egg', '5')), (('goods', ((1, ('ham', 0)), (2, ('egg', 12)))),)]
+>>> apart = ('part', 'goods', 'costs', ('price',), 'goods')
+>>> forward(schema, apart, state)
+(('costs', ((1, (5,)), (2, (None,)), (7, (3,)))), ('goods', ((1, ('ham-egg',)), (2, (None,)), (7, ('tea',)))))
+>>> [rows_forward(schema, apart, (('goods', None),)), rows_back(schema, apart, (('costs', (9,)), ('goods', None)))]
+[(('costs', None), ('goods', None)), (('goods', (None, 9)),)]
+>>> [undoes(split), undoes(dear), undoes(('cut', 'goods', 'name', None)), undoes(('call', 'goods', 'wares'))]
+[('there',), ('there',), ('back',), ('both',)]
+
+Section 7:
+
+>>> from toldmoment.histories import edition_at, keyed, schema_at, schemas, seen, state_at, steps_between, touched
+>>> make = ('step', ('make', 't', (('a', 'int'), ('b', 'text'))))
+>>> deal = ('deal', (('put', 't', 1, (5, 'x-y')), ('put', 't', 2, (None, 'z'))))
+>>> split, cut = ('step', ('split', 't', 'b', 'c', 'd', '-')), ('step', ('cut', 't', 'a', 0))
+>>> entries = (make, deal, split, ('deal', (('put', 't', 1, (6, 'p', 'q')), ('drop', 't', 2))), cut)
+>>> [schema_at(entries, 0), schema_at(entries, 3), [edition_at(entries, moment) for moment in range(6)], len(schemas(entries))]
+[(), (('t', (('a', 'int'), ('c', 'text'), ('d', 'text'))),), [0, 1, 1, 2, 2, 3], 4]
+>>> [state_at(entries, 2), state_at(entries, 3)]
+[(('t', ((1, (5, 'x-y')), (2, (None, 'z')))),), (('t', ((1, (5, 'x', 'y')), (2, (None, 'z', None)))),)]
+>>> [state_at(entries, 4), state_at(entries, 5)]
+[(('t', ((1, (6, 'p', 'q')),)),), (('t', ((1, ('p', 'q')),)),)]
+>>> seen(entries, 5, 1)
+((('t', (('a', 'int'), ('b', 'text'))),), (('t', ((1, (0, 'p-q')),)),))
+>>> [seen(entries, 4, 1)[1], seen(entries, 5, 0), seen(entries, 5, 3)[1] == state_at(entries, 5)]
+[(('t', ((1, (6, 'p-q')),)),), ((), ()), True]
+>>> [keyed(entries, 2, 2), keyed(entries, 4, 2), touched(entries, 2, 3), touched(entries, 1, 4), steps_between(entries, 2, 5)]
+[(('t', (None, 'z')),), (('t', None),), (), (1, 2), (('split', 't', 'b', 'c', 'd', '-'), ('cut', 't', 'a', 0))]
+
+Section 8:
+
+>>> from toldmoment.books import Book
+>>> from toldmoment.disks import Disk
+>>> disk = Disk(('old one', '', 'third'))
+>>> disk.write(0, 'new')
+>>> disk.write(4, 'far')
+>>> disk.write(0, 'newer text')
+>>> [disk.read(0), disk.blocks, disk.cut(('all', 'none', 'none')).blocks, disk.cut((3, 'all', 5)).blocks]
+['newer text', ('old one', '', 'third'), ('new', '', 'third'), ('newerne', '', 'third', '', 'far')]
+>>> paper = Disk()
+>>> book = Book(paper)
+>>> book.add(('put', 'a', '5'))
+>>> book.add(())
+>>> [book.records, Book(paper.cut(())).records, paper.waiting]
+[(('put', 'a', '5'), ()), (('put', 'a', '5'), ()), ()]
+>>> book.anew((('one',) * 200, ('x' * 40,)))
+>>> [len(book.records), Book(paper.cut(())).records == book.records]
+[2, True]
 """
 
 import doctest
 
 from samples import Case
-from toldmoment.errors import BadKind, BadStep, BadValue, BadValues, NoRow
+from toldmoment.books import Book
+from toldmoment.disks import Disk
+from toldmoment.errors import BadKind, BadStep, BadValue, BadValues, NoBook, NoRow
+from toldmoment.histories import seen, state_at
+from toldmoment.maps import back, rows_back
 from toldmoment.schemas import stepped
 from toldmoment.states import dealt, empty_state
 
@@ -70,3 +135,28 @@ class Parentheses(Case):
         empty = empty_state(BOTH)
         self.refused(NoRow, ("cats", 1), dealt, BOTH, empty, (("drop", "cats", 1),))
         self.refused(BadValues, (7,), dealt, BOTH, empty, (("put", "dogs", 1, (7,)),))
+
+    def test_beneath_section_6(self):
+        schema = (("goods", (("name", "text"), ("price", "int"))),)
+        apart = ("part", "goods", "costs", ("price",), "goods")
+        self.same(stepped(schema, apart), (("costs", (("price", "int"),)), ("goods", (("name", "text"),))))
+        self.same(rows_back(schema, apart, (("costs", (9,)), ("goods", None))), (("goods", (None, 9)),))
+        dear = ("turn", "goods", "price", "text", None, 0)
+        self.same(back(schema, dear, (("goods", ((1, ("ham", "05")),)),)), (("goods", ((1, ("ham", 0)),)),))
+
+    def test_beneath_section_7(self):
+        entries = (("step", ("make", "t", (("a", "int"), ("b", "text")))), ("step", ("split", "t", "b", "c", "d", "-")),
+                   ("deal", (("put", "t", 1, (6, "p", "q")),)), ("step", ("cut", "t", "a", 0)))
+        self.same(state_at(entries, 3), (("t", ((1, (6, "p", "q")),)),))
+        self.same(seen(entries, 4, 1)[1], (("t", ((1, (0, "p-q")),)),))
+
+    def test_beneath_section_8(self):
+        disk = Disk(("old one",))
+        disk.write(0, "new")
+        self.same(disk.cut((3,)).blocks, ("new one",))
+        disk.sync()
+        self.same(Disk(("new one",)).blocks, ("new one",))
+        torn = Disk(("new one",))
+        torn.write(0, "newer text")
+        self.same(torn.cut((5,)).blocks, ("newerne",))
+        self.refused(NoBook, None, Book, Disk(("old", "", "x")))

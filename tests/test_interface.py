@@ -4,7 +4,10 @@ import importlib
 import inspect
 import unittest
 
-INTERFACE = {
+from toldmoment.books import Book
+from toldmoment.disks import Disk
+
+FUNCTIONS = {
     "toldmoment.schemas": {
         "value_text": ["value"],
         "value_in": ["text"],
@@ -25,21 +28,69 @@ INTERFACE = {
         "key_rows": ["state", "key"],
         "with_key_rows": ["schema", "state", "key", "rows"],
     },
+    "toldmoment.maps": {
+        "forward": ["schema", "step", "state"],
+        "back": ["schema", "step", "state"],
+        "rows_forward": ["schema", "step", "rows"],
+        "rows_back": ["schema", "step", "rows"],
+        "undoes": ["step"],
+    },
+    "toldmoment.histories": {
+        "schema_at": ["entries", "moment"],
+        "state_at": ["entries", "moment"],
+        "edition_at": ["entries", "moment"],
+        "schemas": ["entries"],
+        "seen": ["entries", "moment", "edition"],
+        "keyed": ["entries", "moment", "key"],
+        "touched": ["entries", "low", "high"],
+        "steps_between": ["entries", "low", "high"],
+    },
 }
+
+# Of each class: its file, how it is called, its methods, and what each of its objects has.
+CLASSES = {
+    "Disk": ("toldmoment.disks", ["blocks", "left"], {
+        "read": ["place"], "write": ["place", "text"], "sync": [], "cut": ["fates"], "__eq__": ["other"],
+    }, ["blocks", "waiting", "left"]),
+    "Book": ("toldmoment.books", ["disk"], {"add": ["record"], "anew": ["records"]}, ["records", "disk"]),
+}
+
+MADE = {"Disk": Disk, "Book": lambda: Book(Disk())}
+DEFAULTS = {("Disk", "blocks"): (), ("Disk", "left"): None}
 
 
 class Interface(unittest.TestCase):
 
+    def takes(self, function, wanted, owner=None):
+        parameters = list(inspect.signature(function).parameters.values())
+        self.assertEqual([one.name for one in parameters], wanted)
+        for one in parameters:
+            self.assertIs(one.kind, inspect.Parameter.POSITIONAL_OR_KEYWORD)
+            self.assertEqual(one.default, DEFAULTS.get((owner, one.name), inspect.Parameter.empty))
+
     def test_each_function_stands_in_its_file_with_its_arguments(self):
-        for place, functions in INTERFACE.items():
+        for place, functions in FUNCTIONS.items():
             module = importlib.import_module(place)
             for name, wanted in functions.items():
                 with self.subTest(name):
                     function = getattr(module, name)
                     self.assertTrue(inspect.isfunction(function))
                     self.assertEqual((function.__module__, function.__name__), (place, name))
-                    parameters = inspect.signature(function).parameters.values()
-                    self.assertEqual([one.name for one in parameters], wanted)
-                    for one in parameters:
-                        self.assertIs(one.kind, inspect.Parameter.POSITIONAL_OR_KEYWORD)
-                        self.assertIs(one.default, inspect.Parameter.empty)
+                    self.takes(function, wanted)
+
+    def test_each_class_stands_in_its_file_with_its_methods(self):
+        for name, (place, wanted, methods, _) in CLASSES.items():
+            with self.subTest(name):
+                one = getattr(importlib.import_module(place), name)
+                self.assertTrue(inspect.isclass(one))
+                self.assertEqual((one.__module__, one.__name__), (place, name))
+                self.takes(one, wanted, name)
+                for method, more in methods.items():
+                    self.assertTrue(inspect.isfunction(vars(one)[method]), method)
+                    self.takes(vars(one)[method], ["self", *more])
+
+    def test_each_object_has_what_is_listed(self):
+        for name, (_, _, _, attributes) in CLASSES.items():
+            made = MADE[name]()
+            for attribute in attributes:
+                self.assertTrue(hasattr(made, attribute), f"{name}.{attribute}")

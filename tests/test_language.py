@@ -16,7 +16,7 @@ ValueError KeyError IndexError TypeError
 METHODS = set("""
 append clear copy count endswith extend find get index insert isalnum isalpha isdigit islower isspace isupper items join
 keys ljust lower lstrip partition pop remove replace reverse rfind rjust rpartition rsplit rstrip setdefault split
-splitlines startswith strip update upper values zfill bit_length add discard
+splitlines startswith strip update upper values zfill bit_length isascii isprintable
 """.split())
 # Generator expressions are barred beside classes that have an __eq__ (L7): lists serve as well.
 BARRED_NODES = (
@@ -155,3 +155,19 @@ class Language(unittest.TestCase):
             for sign, other in zip(node.ops, node.comparators):
                 if isinstance(sign, (ast.Is, ast.IsNot)):
                     self.assertIsInstance(other, ast.Constant, where)
+
+    def test_no_set_is_stored(self):
+        # Books have a method add, so sets may not be added to (L24): none is kept at all.
+        for where, node in self.each_node(ast.Assign):
+            self.assertNotIsInstance(node.value, (ast.Set, ast.SetComp), where)
+            if isinstance(node.value, ast.Call) and isinstance(node.value.func, ast.Name):
+                self.assertNotEqual(node.value.func.id, "set", where)
+
+    def test_attributes_are_not_called_as_methods_of_builtin_values_or_of_their_class(self):
+        builtin = {name for kind in (str, int, list, dict, set, bytes) for name in dir(kind)}
+        for where, node in self.each_node(ast.ClassDef):
+            methods = {part.name for part in node.body if isinstance(part, ast.FunctionDef)}
+            attributes = {part.attr for part in ast.walk(node)
+                          if isinstance(part, ast.Attribute) and isinstance(part.ctx, ast.Store)}
+            self.assertFalse(attributes & (methods | builtin), where)
+            self.assertFalse((methods & builtin) - {"__init__", "__eq__", "add"}, where)

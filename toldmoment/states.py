@@ -19,6 +19,11 @@ def fits(schema, value):
 def dealt(schema, state, changes):
     """The state behind all changes, done one behind another."""
     want_state(schema, state)
+    return state_dealt(schema, state, changes)
+
+
+def state_dealt(schema, state, changes):
+    """As dealt, of a state that is known to be one of the schema: who goes on from state to state looks once."""
     if not are_changes(changes):
         raise BadChanges(changes)
     columns = dict(schema)
