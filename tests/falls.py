@@ -14,15 +14,16 @@ def any_fates(chance, waiting):
 
 
 def each_fates(chance, waiting):
-    """Some fates of each kind for the writes that wait: all of them when few do."""
+    """Fates of each kind for the writes that wait; one that waits alone is torn at each of its signs."""
     yield ("all",) * len(waiting)
     yield ("none",) * len(waiting)
     for at in range(len(waiting)):
         yield tuple("all" if other <= at else "none" for other in range(len(waiting)))
         yield tuple("none" if other <= at else "all" for other in range(len(waiting)))
-        for many in {1, len(waiting[at][1]) // 2, max(0, len(waiting[at][1]) - 1), len(waiting[at][1])}:
-            if many <= len(waiting[at][1]):
-                yield tuple(many if other == at else chance.choice(("all", "none")) for other in range(len(waiting)))
+        signs = len(waiting[at][1])
+        places = range(signs + 1) if len(waiting) == 1 else sorted({0, min(1, signs), signs // 2, max(0, signs - 1), signs})
+        for many in places:
+            yield tuple(many if other == at else chance.choice(("all", "none")) for other in range(len(waiting)))
     for _ in range(3):
         yield any_fates(chance, waiting)
 

@@ -65,6 +65,15 @@ class Opened(Case):
                     self.refused(NoBook, None, Book, disk)
                     self.same((disk.blocks, disk.waiting, disk.left), (Disk(blocks).blocks, (), left))
 
+    def test_no_book_where_a_part_of_it_lacks(self):
+        blocks = book_of(("a", "b"), words(5), ("c",))
+        for at, text in enumerate(blocks):
+            if text != "":
+                for other in ("", "x", text[:-1], text + "x"):
+                    with self.subTest(text, other=other):
+                        disk = Disk((*blocks[:at], other, *blocks[at + 1:]))
+                        self.refused(NoBook, None, Book, disk)
+
     def test_a_book_that_needs_no_mending_is_only_read(self):
         for chance in chances(40):
             disk = Disk()
@@ -116,6 +125,16 @@ class Deeds(Case):
             some = tuple(any_record(chance) for _ in range(chance.randint(0, 4)))
             book.anew(some)
             self.same((book.records, Book(book.disk.cut(())).records), (some, some))
+
+    def test_words_of_all_lengths_stand(self):
+        ahead = ((),) * 120
+        for signs in range(1, 41):
+            for most in (("x" * 40,) * 2, ("x" * 40, "y"), ("z",) * 30):
+                book = Book(Disk())
+                book.anew(ahead)
+                record = (*most, "w" * signs, *most)
+                book.add(record)
+                self.same(Book(book.disk.cut(())).records, (*ahead, record))
 
     def test_what_is_no_record(self):
         for left in (None, 0):
@@ -245,6 +264,28 @@ class Falls(Case):
                 now = Book(Disk(found.blocks)).records
                 self.assertIn(now, (records, other))
                 self.falls(chance, found.blocks, Book, now, now)
+
+    def test_a_deed_that_falls_behind_one_that_fell(self):
+        # Heads and blocks of the deed that fell may be in the way of the next one's, and are as long as those.
+        for chance in chances(3):
+            records = (("a", "b"), words(3, 9))
+            for disk, _ in falls_of(book_of(*records), lambda disk: Book(disk).add(("c", "d"))):
+                for fates in ((("all",) * len(disk.waiting)), ("none",) * len(disk.waiting), any_fates(chance, disk.waiting)):
+                    found = disk.cut(fates)
+                    now = Book(found).records
+                    self.falls(chance, disk.cut(fates).blocks, lambda disk: Book(disk).add(("e", "f")), now, (*now, ("e", "f")))
+                    self.falls(chance, disk.cut(fates).blocks, lambda disk: Book(disk).anew((("g", "h"),)), now, (("g", "h"),))
+
+    def test_what_stood_at_place_0_is_never_part_of_a_head(self):
+        made = Disk()
+        Book(made)
+        whole = made.blocks[0]
+        for at in range(1, len(whole)):
+            for sign in "19 x":
+                text = "x" * at + sign * (len(whole) - at)
+                for disk, _ in falls_of((text,), Book):
+                    for fates in each_fates(chances(1)[0], disk.waiting):
+                        self.stands(disk.cut(fates), ((),))
 
     def test_falls_one_behind_another(self):
         for chance in chances(250):

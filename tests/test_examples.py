@@ -1,4 +1,4 @@
-"""The document's examples of sections 4 to 8, as they stand there, and what is told in parentheses beneath them.
+"""The document's examples of sections 4 to 10, as they stand there, and what is told in parentheses beneath them.
 
 Section 4:
 
@@ -101,6 +101,60 @@ Section 8:
 >>> book.anew((('one',) * 200, ('x' * 40,)))
 >>> [len(book.records), Book(paper.cut(())).records == book.records]
 [2, True]
+
+Section 9:
+
+>>> from toldmoment.disks import Disk
+>>> from toldmoment.source import founded, Source
+>>> disk = Disk()
+>>> source = founded(disk, 2)
+>>> source.step(('make', 'staff', (('who', 'text'), ('pay', 'int'))))
+1
+>>> source.deal((('put', 'staff', 1, ('ann', 5)), ('put', 'staff', 2, ('bob', 7))))
+2
+>>> [source.step(('add', 'staff', 'room', 'int', 0)), source.rows(2, 'staff'), source.rows(1, 'staff')]
+[3, ((1, ('ann', 5, 0)), (2, ('bob', 7, 0))), ((1, ('ann', 5)), (2, ('bob', 7)))]
+>>> source.letters(1, 1)
+(('deal', 1, 2, 1, (('put', 'staff', 2, ('bob', 7)),)), ('step', 1, 3, 2, ('add', 'staff', 'room', 'int', 0)), ('mark', 1, 3, 3))
+>>> chunk = source.chunk(1, 9)
+>>> [source.chunk_row(chunk), source.deal((('drop', 'staff', 2), ('put', 'staff', 3, ('cid', 1, 4)))), source.chunk_row(chunk), source.chunk_row(chunk)]
+[True, 4, True, False]
+>>> letter = source.chunk_end(chunk)
+>>> [letter[:3], len(letter[3]), letter[4]]
+[('chunk', (3, 4), (1, 9)), 2, ((1, (('staff', ('ann', 5, 0)),)), (3, (('staff', ('cid', 1, 4)),)))]
+>>> source.compact(3)
+>>> [source.first, source.entries, source.letters(0, 2), source.letters(0, 3)[-1]]
+[3, (('deal', (('drop', 'staff', 2), ('put', 'staff', 3, ('cid', 1, 4)))),), (('old', 0, 3),), ('mark', 0, 4, 4)]
+>>> again = Source(disk.cut(()))
+>>> [again.moment, again.edition, again.first, again.state == source.state, again.steps == source.steps]
+[4, 2, 3, True, True]
+
+Section 10:
+
+>>> from toldmoment.inboxes import Inbox
+>>> from toldmoment.letters import letters_of, partition_of
+>>> entries = (('step', ('make', 'a', (('x', 'int'),))), ('deal', (('put', 'a', 1, (5,)), ('put', 'a', 2, (6,)))), ('deal', (('drop', 'a', 2),)))
+>>> [partition_of(key, 2) for key in (1, 2, 3)]
+[0, 1, 0]
+>>> even, odd = letters_of(entries, 0, 0, 2), letters_of(entries, 0, 1, 2)
+>>> even
+(('step', 0, 1, 0, ('make', 'a', (('x', 'int'),))), ('deal', 0, 2, 1, (('put', 'a', 1, (5,)),)))
+>>> odd[1:]
+(('deal', 1, 2, 1, (('put', 'a', 2, (6,)),)), ('deal', 1, 3, 2, (('drop', 'a', 2),)))
+>>> inbox = Inbox(2, 0)
+>>> inbox.hear(even[1])
+>>> inbox.hear(odd[2])
+>>> [inbox.newest(), inbox.whole(), inbox.asks()]
+[0, (), ((0, 0), (1, 0))]
+>>> inbox.hear(even[0])
+>>> inbox.hear(odd[0])
+>>> [inbox.reach(0), inbox.reach(1), inbox.newest(), inbox.whole() == ((1, entries[0]),), inbox.asks()]
+[2, 1, 1, True, ((0, 2), (1, 1))]
+>>> inbox.done(1)
+>>> inbox.hear(odd[1])
+>>> inbox.hear(('mark', 0, 3, 2))
+>>> [inbox.newest(), inbox.whole() == ((2, entries[1]), (3, entries[2])), inbox.asks()]
+[3, True, ()]
 """
 
 import doctest
@@ -108,8 +162,10 @@ import doctest
 from samples import Case
 from toldmoment.books import Book
 from toldmoment.disks import Disk
-from toldmoment.errors import BadKind, BadStep, BadValue, BadValues, NoBook, NoRow
+from toldmoment.errors import BadKind, BadStep, BadValue, BadValues, Clash, NoBook, NoRow
 from toldmoment.histories import seen, state_at
+from toldmoment.inboxes import Inbox
+from toldmoment.letters import partition_of
 from toldmoment.maps import back, rows_back
 from toldmoment.schemas import stepped
 from toldmoment.states import dealt, empty_state
@@ -160,3 +216,12 @@ class Parentheses(Case):
         torn.write(0, "newer text")
         self.same(torn.cut((5,)).blocks, ("newerne",))
         self.refused(NoBook, None, Book, Disk(("old", "", "x")))
+
+    def test_beneath_section_9(self):
+        self.same([partition_of(key, 2) for key in (1, 2, 3)], [0, 1, 0])
+
+    def test_beneath_section_10(self):
+        inbox = Inbox(2, 1)
+        inbox.hear(("deal", 1, 3, 2, (("drop", "a", 2),)))
+        inbox.hear(("mark", 0, 3, 2))
+        self.refused(Clash, (1, 4), inbox.hear, ("mark", 1, 4, 2))

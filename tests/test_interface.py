@@ -6,6 +6,8 @@ import unittest
 
 from toldmoment.books import Book
 from toldmoment.disks import Disk
+from toldmoment.inboxes import Inbox
+from toldmoment.source import founded
 
 FUNCTIONS = {
     "toldmoment.schemas": {
@@ -45,6 +47,13 @@ FUNCTIONS = {
         "touched": ["entries", "low", "high"],
         "steps_between": ["entries", "low", "high"],
     },
+    "toldmoment.letters": {
+        "partition_of": ["key", "many"],
+        "letters_of": ["entries", "first", "partition", "many"],
+    },
+    "toldmoment.source": {
+        "founded": ["disk", "partitions"],
+    },
 }
 
 # Of each class: its file, how it is called, its methods, and what each of its objects has.
@@ -53,9 +62,18 @@ CLASSES = {
         "read": ["place"], "write": ["place", "text"], "sync": [], "cut": ["fates"], "__eq__": ["other"],
     }, ["blocks", "waiting", "left"]),
     "Book": ("toldmoment.books", ["disk"], {"add": ["record"], "anew": ["records"]}, ["records", "disk"]),
+    "Inbox": ("toldmoment.inboxes", ["many", "moment"], {
+        "hear": ["letter"], "reach": ["partition"], "newest": [], "whole": [], "done": ["moment"], "asks": [],
+    }, ["many", "moment"]),
+    "Source": ("toldmoment.source", ["disk"], {
+        "deal": ["changes"], "step": ["step"], "rows": ["edition", "table"], "letters": ["partition", "moment"],
+        "compact": ["moment"], "chunk": ["low", "high"], "chunk_row": ["chunk"], "chunk_end": ["chunk"],
+    }, ["partitions", "moment", "edition", "first", "schema", "state", "steps", "entries"]),
 }
 
-MADE = {"Disk": Disk, "Book": lambda: Book(Disk())}
+MADE = {
+    "Disk": Disk, "Book": lambda: Book(Disk()), "Inbox": lambda: Inbox(1, 0), "Source": lambda: founded(Disk(), 1),
+}
 DEFAULTS = {("Disk", "blocks"): (), ("Disk", "left"): None}
 
 

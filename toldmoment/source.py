@@ -1,0 +1,159 @@
+"""The source: a history that is kept in a book, sent in letters, and read in chunks (section 9)."""
+
+from toldmoment.books import Book, records_on
+from toldmoment.errors import BadKeys, BadNumber, NoChunk, NoMoment, NoPartition, NoSource, NoTable, There
+from toldmoment.forms import integer_in, is_integer, want_key
+from toldmoment.histories import entry_behind, state_seen, steps_among, want_edition
+from toldmoment.letters import is_many, is_partition, letters_behind
+from toldmoment.readings import Reading
+from toldmoment.schemas import names_of
+from toldmoment.stored import (
+    editions_of, entries_stored, entry_record, entry_records, row_records, state_stored, step_records, steps_stored,
+)
+
+# The first word of the first record of a source's book.
+HEADING = "source"
+
+
+def founded(disk, partitions):
+    """A new source, without tables, on this disk."""
+    if not is_many(partitions):
+        raise BadNumber(partitions)
+    if len(records_on(disk)) > 0:
+        raise There(None)
+    Book(disk).add(heading(0, (0,) * partitions))
+    return Source(disk)
+
+
+class Source:
+    """The source that lies on a disk."""
+
+    def __init__(self, disk):
+        # Opening a book may write: what is refused is refused ahead of it, and changes nothing.
+        if not has_heading(records_on(disk)):
+            raise NoSource(None)
+        self._book = Book(disk)
+        self._chunks = {}
+        self._many_chunks = 0
+        self._begin()
+
+    def deal(self, changes):
+        """Does a deal; its moment."""
+        return self._do(("deal", changes))
+
+    def step(self, step):
+        """Does a step; its moment."""
+        return self._do(("step", step))
+
+    def rows(self, edition, table):
+        """The table's rows of the newest state, seen by this edition."""
+        want_edition(edition, self.edition)
+        if table not in names_of(self._editions[edition]):
+            raise NoTable(table)
+        return dict(state_seen(self._editions, self.steps, self.state, edition))[table]
+
+    def letters(self, partition, moment):
+        """The partition's letters above this moment, and a mark."""
+        if not is_partition(partition, self.partitions):
+            raise NoPartition(partition)
+        self._want_moment(moment, 0)
+        if moment < self.first:
+            return (("old", partition, self.first),)
+        letters = self._letters(partition, self.entries)
+        last = last_moment(letters, self._lasts[partition])
+        mark = (("mark", partition, self.moment, last),) if self.moment > 0 else ()
+        return (*[letter for letter in letters if letter[2] > moment], *mark)
+
+    def compact(self, moment):
+        """Lets go the entries up to this moment."""
+        self._want_moment(moment, self.first)
+        if moment == self.first:
+            return
+        gone, left = self.entries[:moment - self.first], self.entries[moment - self.first:]
+        schema, state = self._base
+        for entry in gone:
+            schema, state = entry_behind(schema, state, entry)
+        lasts = [last_moment(self._letters(partition, gone), last) for partition, last in enumerate(self._lasts)]
+        past = self.steps[:self.edition - len(steps_among(left))]
+        self._book.anew((heading(moment, lasts), *step_records(past), *row_records(state), *entry_records(left)))
+        self._begin()
+
+    def chunk(self, low, high):
+        """Opens a chunk over the keys from low to high; its number."""
+        want_key(low)
+        want_key(high)
+        if low > high:
+            raise BadKeys((low, high))
+        self._many_chunks += 1
+        self._chunks[self._many_chunks] = Reading(low, high, self.moment, self.steps)
+        return self._many_chunks
+
+    def chunk_row(self, chunk):
+        """Reads the rows of the next key; whether there is one."""
+        return self._open_chunk(chunk).read_row(self.state)
+
+    def chunk_end(self, chunk):
+        """Closes the chunk; its letter."""
+        letter = self._open_chunk(chunk).letter(self.moment, self.edition)
+        del self._chunks[chunk]
+        return letter
+
+    def _begin(self):
+        """Stands where the book's records lead."""
+        records = self._book.records
+        numbers = [integer_in(word) for word in records[0][1:]]
+        self.first, self._lasts, self.partitions = numbers[0], tuple(numbers[1:]), len(numbers) - 1
+        self.steps = steps_stored(records)
+        self._editions = editions_of(self.steps)
+        self._base = (self._editions[-1], state_stored(self._editions[-1], records))
+        self.schema, self.state = self._base
+        self.moment, self.edition, self.entries = self.first, len(self.steps), ()
+        for entry in entries_stored(records):
+            self._go_on(entry, entry_behind(self.schema, self.state, entry))
+
+    def _do(self, entry):
+        """Keeps one entry more, and stands behind it; its moment."""
+        behind = entry_behind(self.schema, self.state, entry)
+        self._book.add(entry_record(entry))
+        self._go_on(entry, behind)
+        return self.moment
+
+    def _go_on(self, entry, behind):
+        """Stands behind one entry more, at this schema and state."""
+        self.schema, self.state = behind
+        self.moment += 1
+        self.entries = (*self.entries, entry)
+        if entry[0] == "step":
+            self.edition += 1
+            self.steps = (*self.steps, entry[1])
+            self._editions = (*self._editions, self.schema)
+
+    def _letters(self, partition, entries):
+        """The partition's letters of entries, those of the moments above first."""
+        return letters_behind(entries, self.first, self._lasts[partition], partition, self.partitions)
+
+    def _want_moment(self, value, least):
+        """Raises NoMoment unless value is a moment from least to the newest."""
+        if not is_integer(value) or not least <= value <= self.moment:
+            raise NoMoment(value)
+
+    def _open_chunk(self, value):
+        """The chunk of this number; NoChunk unless it is open."""
+        if not is_integer(value) or value not in self._chunks:
+            raise NoChunk(value)
+        return self._chunks[value]
+
+
+def heading(first, lasts):
+    """The first record of a source: behind its first moment stands each partition's last one up to there."""
+    return (HEADING, str(first), *[str(moment) for moment in lasts])
+
+
+def has_heading(records):
+    """Whether records are those of a source."""
+    return len(records) > 0 and records[0][:1] == (HEADING,)
+
+
+def last_moment(letters, before):
+    """The moment of the last letter, or the one before all of them."""
+    return letters[-1][2] if len(letters) > 0 else before
