@@ -354,6 +354,7 @@ class Stories(Case):
                     inbox.hear(letter)
             self.same((inbox.newest(), inbox.asks()), (story.moment, ()))
             self.truth(story, inbox, inbox.moment)
+            self.same(told_of(inbox), told_of(inbox))
 
     def test_what_is_asked_for_is_sent_again_till_nothing_lacks(self):
         for chance in chances(100):

@@ -161,6 +161,7 @@ class Deeds(Beside):
                 self.agrees(source, story)
             self.rows_agree(source, story)
             self.letters_agree(source, story)
+            self.same(told_of(source), told_of(source))
             self.same(source.state, state_at(story.entries, story.moment))
             self.same([source.schema, story.edition_schemas()], [schemas(story.entries)[-1], schemas(story.entries)])
 
