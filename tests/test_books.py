@@ -74,6 +74,18 @@ class Opened(Case):
                         disk = Disk((*blocks[:at], other, *blocks[at + 1:]))
                         self.refused(NoBook, None, Book, disk)
 
+    def test_no_book_where_words_are_none_of_a_record(self):
+        for text in ("0 new a  b", "0 new a ", "0 new " + "x" * 41, "0 new  ", "0 on a"):
+            disk = Disk()
+            Book(disk)
+            head = "book 2 5"
+            blocks = (f"{len(head) + 4:03d} {head}", "", "", "", "", f"{len(text) + 4:03d} {text}")
+            with self.subTest(text):
+                self.refused(NoBook, None, Book, Disk(blocks))
+        text = "0 new a b"
+        blocks = (f"{len(head) + 4:03d} {head}", "", "", "", "", f"{len(text) + 4:03d} {text}")
+        self.same(Book(Disk(blocks)).records, (("a", "b"),))
+
     def test_a_book_that_needs_no_mending_is_only_read(self):
         for chance in chances(40):
             disk = Disk()

@@ -13,6 +13,7 @@ from toldmoment.inboxes import Inbox
 from toldmoment.letters import letters_of
 from toldmoment.schemas import entry_text, step_text
 from toldmoment.source import Source, founded
+from toldmoment.states import fits
 
 MAKE = ("make", "staff", (("who", "text"), ("pay", "int")))
 NO_INTEGERS = (-1, True, False, None, "0", "", [], (), (0,), {}, 1.0)
@@ -139,6 +140,110 @@ class Founded(Beside):
         disk = Disk()
         founded(disk, 1)
         self.same(Source(disk=disk).moment, 0)
+
+
+PAST = ("past", "make", "a", "x", "int", "y", "text")
+# Records of books, of which a source would write none.
+NO_SOURCES = (
+    (), ((),), (("sauce", "0", "0"),), (("source", "0"),), (("source", "0", "0"), ()), (("source", "0", "0"), ("a",)),
+    (("source", "-1", "0"),), (("source", "0", "-1"),), (("source", "00", "0"),), (("source", "0", "0x"),), ((), ("source", "0", "0")),
+    (("source", "1", "2"),), (("source", "1", "1"),), (("source", "5", "0", "1"),), (("source", "0", "0", "0", "0", "0", "0"),),
+    (("source", "None", "0"),), (("deal",), ("source", "0", "0")), (("deal",),), (("source", "0", "0"), ("source", "0", "0")),
+    (("source", "1", "1"), ("past",)), (("source", "1", "1"), ("past", "make", "a", "x")), (("source", "0", "0"), PAST),
+    (("source", "1", "0"), PAST), (("source", "1", "1", "0"), PAST), (("source", "2", "2"), PAST, PAST),
+    (("source", "1", "1"), ("past", "gone", "a")), (("source", "2", "2"), ("step", *PAST[1:]), ("past", "gone", "a")),
+    (("source", "9", "9"), ("row", "a", "1", "5", "'x"), PAST), (("source", "9", "9"), PAST, ("row", "b", "1", "5", "'x")),
+    (("source", "9", "9"), PAST, ("row", "a", "1", "5")), (("source", "9", "9"), PAST, ("row", "a", "1", "5", "6")),
+    (("source", "9", "9"), PAST, ("row", "a", "0", "5", "'x")), (("source", "9", "9"), PAST, ("row", "a", "1000000", "5", "'x")),
+    (("source", "9", "9"), PAST, ("row", "a", "01", "5", "'x")), (("source", "9", "9"), PAST, ("row",)),
+    (("source", "9", "9"), PAST, ("row", "a")), (("source", "9", "9"), PAST, ("row", "a", "1", "x", "'x")),
+    (("source", "9", "9"), PAST, ("row", "a", "2", "5", "'x"), ("row", "a", "1", "5", "'x")),
+    (("source", "9", "9"), PAST, ("row", "a", "1", "5", "'x"), ("row", "a", "1", "6", "'x")),
+    (("source", "9", "9"), PAST, ("row", "a", "1", "5", "'x"), ("past", "gone", "a")),
+    (("source", "9", "1"), PAST, ("row", "a", "1", "5", "'x")), (("source", "9", "9", "1"), PAST, ("row", "a", "2", "5", "'x")),
+    (("source", "0", "0"), ("step",)), (("source", "0", "0"), ("deal", "a")), (("source", "0", "0"), ("step", "gone", "a")),
+    (("source", "0", "0"), ("step", *PAST[1:]), ("deal", "drop", "a", "1")),
+    (("source", "0", "0"), ("step", *PAST[1:]), ("deal", "put", "a", "1", "5")), (("source", "0", "0"), ("deal",), ()),
+    (("source", "0", "0"), ("deal",), ("row", "a", "1")), (("source", "0", "0"), ("deal",), ("deal", ";")),
+    (("consumer", "1", "0", "none"), ("view", "count", "a", "x")),
+)
+
+
+class NoSourceThere(Beside):
+    """Books that no source wrote."""
+
+    def is_none(self, records):
+        disk = Disk()
+        Book(disk).anew(records)
+        for left in (None, 0):
+            other = Disk(disk.blocks, left)
+            self.refused(NoSource, None, Source, other)
+            self.same((other.blocks, other.waiting, other.left), (disk.blocks, (), left))
+            self.same(Book(other).records, records)
+        if records:
+            self.refused(There, None, founded, disk, 1)
+
+    def test_records_that_no_source_writes(self):
+        for records in NO_SOURCES:
+            with self.subTest(records):
+                self.is_none(records)
+
+    def test_a_book_that_needs_mending_is_not_mended(self):
+        disk = Disk()
+        Book(disk).add(("source",))
+        blocks = (*disk.blocks, "torn")
+        for left in (None, 0):
+            other = Disk(blocks, left)
+            self.refused(NoSource, None, Source, other)
+            self.same((other.blocks, other.waiting, other.left), (blocks, (), left))
+
+    def test_records_of_a_source_with_something_of_them_otherwise(self):
+        refused = 0
+        for chance in chances(300):
+            story = any_story(chance, chance.randint(0, 8))
+            source, disk = source_of(story, chance.randint(1, 4))
+            source.compact(chance.randint(0, story.moment))
+            records = otherwise(chance, Book(disk).records)
+            other = Disk()
+            Book(other).anew(records)
+            try:
+                found = Source(Disk(other.blocks, 0))
+            except MomentError:
+                refused += 1
+                self.is_none(records)
+            else:
+                self.assertTrue(fits(found.schema, found.state))
+                self.same((found.moment, found.edition), (found.first + len(found.entries), len(found.steps)))
+                self.assertLessEqual(1, found.partitions)
+                self.assertLessEqual(found.partitions, 4)
+                found = Source(other)
+                moment = found.deal(())
+                found.compact(moment)
+                self.same(told_of(Source(Disk(other.blocks, 0))), told_of(found))
+        self.assertGreater(refused, 100)
+
+
+def otherwise(chance, records):
+    """These records, but for one thing."""
+    records = [list(record) for record in records]
+    at = chance.randrange(len(records))
+    way = chance.choice(("lacks", "twice", "turned", "moved", "word", "word", "word", "short", "long"))
+    if way == "lacks":
+        del records[at]
+    elif way == "twice":
+        records.insert(at, records[at])
+    elif way == "turned":
+        records[at] = records[at][::-1]
+    elif way == "moved":
+        records.insert(chance.randrange(len(records)), records.pop(at))
+    elif way == "short" and records[at]:
+        del records[at][chance.randrange(len(records[at]))]
+    elif way == "long":
+        records[at].insert(chance.randint(0, len(records[at])), chance.choice(("0", "7", "a", "'", "none", ";", "row")))
+    elif way == "word" and records[at]:
+        place = chance.randrange(len(records[at]))
+        records[at][place] = chance.choice(("0", "1", "2", "9", "-1", "a", "x", "'x", "none", "int", "past", "row", "deal", ";"))
+    return tuple(tuple(record) for record in records)
 
 
 class Deeds(Beside):

@@ -122,6 +122,8 @@ def chain_in(texts, last):
             records.append(words)
             words = ()
         place = part[0]
+    if len(words) > 0 or not all([is_record(record) for record in records]):
+        raise NoBook(None)
     return tuple(places[::-1]), tuple(records[::-1])
 
 

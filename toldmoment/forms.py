@@ -45,6 +45,24 @@ def is_ascending(parts):
     return all([low < high for low, high in zip(parts, parts[1:])])
 
 
+def are_alike(one, other):
+    """Whether any two values are the same one; Python takes True for 1, also within tuples and lists."""
+    if not isinstance(one, (tuple, list)) or not isinstance(other, (tuple, list)):
+        return isinstance(one, bool) == isinstance(other, bool) and one == other
+    if isinstance(one, tuple) != isinstance(other, tuple) or len(one) != len(other):
+        return False
+    return all([are_alike(part, its) for part, its in zip(one, other)])
+
+
+def are_unlike(values):
+    """Whether no two of any values are alike."""
+    keys = [value for value in values if is_key(value)]
+    others = [value for value in values if not is_key(value)]
+    if len(set(keys)) < len(keys):
+        return False
+    return not any([are_alike(one, other) for at, one in enumerate(others) for other in others[:at]])
+
+
 def is_name(value):
     """Whether value is a name: 1 to 6 letters a to z."""
     if not isinstance(value, str) or not 1 <= len(value) <= MOST_LETTERS:
@@ -228,15 +246,19 @@ def is_entry(value):
     return value[0] == "step" and is_step(value[1])
 
 
-def integer_in(word):
-    """The integer of at most 11 figures that Python writes as this string, or None."""
+def number_in(word):
+    """The integer that Python writes as this string, or None."""
     figures = word[1:] if word.startswith("-") else word
-    if not 1 <= len(figures) <= MOST_FIGURES:
-        return None
-    if not all(["0" <= sign <= "9" for sign in figures]):
+    if len(figures) == 0 or not all(["0" <= sign <= "9" for sign in figures]):
         return None
     number = int(word)
     return number if str(number) == word else None
+
+
+def integer_in(word):
+    """The integer of at most 11 figures that Python writes as this string, or None."""
+    figures = word[1:] if word.startswith("-") else word
+    return number_in(word) if len(figures) <= MOST_FIGURES else None
 
 
 def want_schema(value):

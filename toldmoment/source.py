@@ -1,14 +1,17 @@
 """The source: a history that is kept in a book, sent in letters, and read in chunks (section 9)."""
 
 from toldmoment.books import Book, records_on
-from toldmoment.errors import BadKeys, BadNumber, NoChunk, NoMoment, NoPartition, NoSource, NoTable, There
+from toldmoment.errors import (
+    BadKeys, BadNumber, BadRecord, MomentError, NoChunk, NoMoment, NoPartition, NoSource, NoTable, There,
+)
 from toldmoment.forms import integer_in, is_integer, want_key
 from toldmoment.histories import entry_behind, state_seen, steps_among, want_edition
-from toldmoment.letters import is_many, is_partition, letters_behind
+from toldmoment.letters import is_many, is_partition, letters_behind, partition_by
 from toldmoment.readings import Reading
 from toldmoment.schemas import names_of
+from toldmoment.states import keys_of
 from toldmoment.stored import (
-    editions_of, entries_stored, entry_record, entry_records, row_records, state_stored, step_records, steps_stored,
+    base_stored, entries_stored, entry_record, entry_records, is_entry_record, row_records, step_records,
 )
 
 # The first word of the first record of a source's book.
@@ -29,13 +32,15 @@ class Source:
     """The source that lies on a disk."""
 
     def __init__(self, disk):
+        records = records_on(disk)
+        try:
+            self._begin(records)
+        except MomentError:
+            raise NoSource(None) from None
         # Opening a book may write: what is refused is refused ahead of it, and changes nothing.
-        if not has_heading(records_on(disk)):
-            raise NoSource(None)
         self._book = Book(disk)
         self._chunks = {}
         self._many_chunks = 0
-        self._begin()
 
     def deal(self, changes):
         """Does a deal; its moment."""
@@ -75,8 +80,9 @@ class Source:
             schema, state = entry_behind(schema, state, entry)
         lasts = [last_moment(self._letters(partition, gone), last) for partition, last in enumerate(self._lasts)]
         past = self.steps[:self.edition - len(steps_among(left))]
-        self._book.anew((heading(moment, lasts), *step_records(past), *row_records(state), *entry_records(left)))
-        self._begin()
+        records = (heading(moment, lasts), *step_records(past), *row_records(state), *entry_records(left))
+        self._book.anew(records)
+        self._begin(records)
 
     def chunk(self, low, high):
         """Opens a chunk over the keys from low to high; its number."""
@@ -98,17 +104,16 @@ class Source:
         del self._chunks[chunk]
         return letter
 
-    def _begin(self):
-        """Stands where the book's records lead."""
-        records = self._book.records
-        numbers = [integer_in(word) for word in records[0][1:]]
-        self.first, self._lasts, self.partitions = numbers[0], tuple(numbers[1:]), len(numbers) - 1
-        self.steps = steps_stored(records)
-        self._editions = editions_of(self.steps)
-        self._base = (self._editions[-1], state_stored(self._editions[-1], records))
+    def _begin(self, records):
+        """Stands where a book's records lead; some error if no source keeps such records."""
+        ahead, later = parted(records)
+        self.steps, self._editions, state = base_stored(ahead[1:])
+        self.first, self._lasts = heading_in(ahead[0], len(self.steps), keys_of(state))
+        self.partitions = len(self._lasts)
+        self._base = (self._editions[-1], state)
         self.schema, self.state = self._base
         self.moment, self.edition, self.entries = self.first, len(self.steps), ()
-        for entry in entries_stored(records):
+        for entry in entries_stored(later):
             self._go_on(entry, entry_behind(self.schema, self.state, entry))
 
     def _do(self, entry):
@@ -149,9 +154,32 @@ def heading(first, lasts):
     return (HEADING, str(first), *[str(moment) for moment in lasts])
 
 
-def has_heading(records):
-    """Whether records are those of a source."""
-    return len(records) > 0 and records[0][:1] == (HEADING,)
+def parted(records):
+    """The records up to the first entry's, and the others; BadRecord if the first one is that of an entry."""
+    many = 0
+    while many < len(records) and not is_entry_record(records[many]):
+        many += 1
+    if many == 0:
+        raise BadRecord(records[:1])
+    return records[:many], records[many:]
+
+
+def heading_in(record, many_steps, keys):
+    """What the first record of a source tells: its first moment, and each partition's last one up to there.
+
+    BadRecord unless so many steps, and changes of these keys, can have led there.
+    """
+    numbers = [integer_in(word) for word in record[1:]]
+    if record[:1] != (HEADING,) or None in numbers or not is_many(len(numbers) - 1):
+        raise BadRecord(record)
+    first, lasts = numbers[0], tuple(numbers[1:])
+    for partition, last in enumerate(lasts):
+        # A partition hears of each step, and of some deal if it has keys.
+        has_keys = any([partition_by(key, len(lasts)) == partition for key in keys])
+        least = many_steps + 1 if has_keys else many_steps
+        if not least <= last <= first or (many_steps == 0 and last > 0):
+            raise BadRecord(record)
+    return first, lasts
 
 
 def last_moment(letters, before):

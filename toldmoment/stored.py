@@ -1,7 +1,8 @@
 """How steps, rows and entries lie in a book: a record each, the words of its text behind one that tells what it is."""
 
-from toldmoment.forms import integer_in
-from toldmoment.schemas import entry_in, entry_text, step_in, step_text, stepped, value_in, value_text
+from toldmoment.errors import BadRecords
+from toldmoment.forms import is_state
+from toldmoment.schemas import change_in, entry_in, entry_text, step_in, step_text, stepped, value_text
 
 PAST = "past"
 ROW = "row"
@@ -32,23 +33,30 @@ def entry_records(entries):
     return tuple([entry_record(entry) for entry in entries])
 
 
-def steps_stored(records):
-    """The past steps among records."""
-    return tuple([step_in(" ".join(record[1:])) for record in records if record[0] == PAST])
+def is_entry_record(record):
+    """Whether the record begins as one of an entry does."""
+    return len(record) > 0 and record[0] in ENTRIES
 
 
 def entries_stored(records):
-    """The entries among records."""
-    return tuple([entry_in(" ".join(record)) for record in records if record[0] in ENTRIES])
+    """The entries that these records tell; BadText if one of them tells none."""
+    return tuple([entry_in(" ".join(record)) for record in records])
 
 
-def state_stored(schema, records):
-    """The state of the schema whose rows are among records, in the sequence in which row_records told them."""
-    found = {table: [] for table, _ in schema}
-    for record in records:
-        if record[0] == ROW:
-            found[record[1]].append((integer_in(record[2]), tuple([value_in(word) for word in record[3:]])))
-    return tuple([(table, tuple(found[table])) for table, _ in schema])
+def base_stored(records):
+    """The steps that these records tell, the schemas of all editions, and the state behind the steps.
+
+    Any book may be handed in: BadText, what stepped raises, or BadRecords, if these are not just such records as
+    step_records and row_records tell.
+    """
+    steps = tuple([step_in(" ".join(record[1:])) for record in records if record[:1] == (PAST,)])
+    editions = editions_of(steps)
+    # A row's record has the words of a put.
+    puts = [change_in(" ".join(("put", *record[1:]))) for record in records if record[:1] == (ROW,)]
+    state = tuple([(table, tuple([put[2:] for put in puts if put[1] == table])) for table, _ in editions[-1]])
+    if not is_state(editions[-1], state) or (*step_records(steps), *row_records(state)) != records:
+        raise BadRecords(records)
+    return steps, editions, state
 
 
 def editions_of(steps):
