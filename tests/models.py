@@ -139,6 +139,66 @@ def model_dealt(schema, model, changes):
     return model
 
 
+def value_sequence(values):
+    """Values in the sequence in which views tell them: None ahead of all others."""
+    return sorted(values, key=lambda value: (value is not None, 0 if value is None else value))
+
+
+def lets_by(row, condition):
+    if condition is None:
+        return True
+    column, sign, wanted = condition
+    value = row[column]
+    if value is None or wanted is None:
+        return sign == "=" and value is wanted
+    return {"<": value < wanted, "=": value == wanted, ">": value > wanted}[sign]
+
+
+def viewed_plainly(schema, state, view):
+    """What a view tells of a state, worked out on the model."""
+    model, kinds = model_of(schema, state), {table: dict(columns) for table, columns in schema}
+    word, table, *more = view
+    rows = {key: model[key][table] for key in sorted(model) if table in model[key]}
+    if word == "rows":
+        return tuple((key, tuple(row[name] for name in more[0])) for key, row in rows.items() if lets_by(row, more[1]))
+    if word == "pair":
+        lack = dict.fromkeys(kinds[more[1]])
+        return tuple((key, tuple(row.values()), tuple(model.get(row[more[0]], {}).get(more[1], lack).values()))
+                     for key, row in rows.items())
+    by = more[0] if word == "count" else more[1]
+    told = []
+    for value in value_sequence({row[by] for row in rows.values()}):
+        those = [row for row in rows.values() if row[by] == value]
+        told.append((value, len(those) if word == "count" else sum(row[more[0]] or 0 for row in those)))
+    return tuple(told)
+
+
+def is_plainly_fit(schema, view):
+    """Whether a view is one by this schema, as the document's table tells it."""
+    kinds = {table: dict(columns) for table, columns in schema}
+    word, table, *more = view
+    if table not in kinds:
+        return False
+    columns = kinds[table]
+    if word == "rows":
+        if not set(more[0]) <= set(columns):
+            return False
+        if more[1] is None:
+            return True
+        column, _, value = more[1]
+        return column in columns and (value is None or columns[column] == {int: "int", str: "text"}[type(value)])
+    if word == "pair":
+        return columns.get(more[0]) == "int" and more[1] in kinds
+    if word == "sum":
+        return columns.get(more[0]) == "int" and more[1] in columns
+    return more[0] in columns
+
+
+def shown_plainly(schema, state, views):
+    """What views show, those that are none by this schema among them."""
+    return tuple(viewed_plainly(schema, state, view) if is_plainly_fit(schema, view) else ("unfit",) for view in views)
+
+
 class Story:
     """A history, with what is to be told at each of its moments: schemas, models and editions."""
 

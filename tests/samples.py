@@ -194,3 +194,68 @@ def any_change(chance, schema):
 def chances(many):
     """So many sources of chance, the same ones in each run."""
     return [random.Random(seed) for seed in range(many)]
+
+
+# Views of each kind, with their lines.
+VIEW_TEXTS = (
+    (("rows", "a", (), None), "rows a -"),
+    (("rows", "a", ("x",), None), "rows a x"),
+    (("rows", "goods", ("price", "name"), ("price", ">", 3)), "rows goods price,name if price > 3"),
+    (("rows", "a", (), ("x", "=", None)), "rows a - if x = none"),
+    (("rows", "a", ("x",), ("y", "<", "sugar")), "rows a x if y < 'sugar"),
+    (("rows", "a", ("x",), ("y", "=", "")), "rows a x if y = '"),
+    (("rows", "a", ("x",), ("y", "=", "none")), "rows a x if y = 'none"),
+    (("rows", "a", ("x",), ("y", ">", ";")), "rows a x if y > ';"),
+    (("rows", "a", ("x",), ("y", ">", ",,")), "rows a x if y > ',,"),
+    (("rows", "a", ("x",), ("y", ">", ",")), "rows a x if y > ',"),
+    (("rows", "a", ("x",), ("y", "<", -99999999999)), "rows a x if y < -99999999999"),
+    (("rows", "a", ("if",), ("if", "=", 0)), "rows a if if if = 0"),
+    (("rows", "rows", ("if", "rows"), None), "rows rows if,rows"),
+    (("rows", "abcdef", ("abcdef", "bcdefg", "cdefgh", "defghi", "efghij", "fghijk"), ("abcdef", "=", "abcdefghijkl")),
+     "rows abcdef abcdef,bcdefg,cdefgh,defghi,efghij,fghijk if abcdef = 'abcdefghijkl"),
+    (("pair", "sold", "what", "goods"), "pair sold what goods"),
+    (("pair", "a", "a", "a"), "pair a a a"),
+    (("count", "sold", "what"), "count sold what"),
+    (("sum", "sold", "many", "what"), "sum sold many what"),
+    (("sum", "a", "x", "x"), "sum a x x"),
+)
+
+# What comes near a view, and has the form of none.
+NO_VIEWS = (
+    (), ("rows",), ("rows", "a"), ("rows", "a", ()), ("rows", "a", (), None, None), ("rows", "a", [], None),
+    ("rows", "a", "x", None), ("rows", "a", None, None), ("rows", "a", ("x", "x"), None), ("rows", "a", ("X",), None),
+    ("rows", "a", tuple("tuvwxyz"), None), ("rows", "A", (), None), ("rows", "", (), None), ("rows", 1, (), None),
+    ("rows", "abcdefg", (), None), ("rows", "a", (["x"],), None), ("rows", "a", ("-",), None), ("rows", "a", ("",), None),
+    ("rows", "a", (), ()), ("rows", "a", (), ("x",)), ("rows", "a", (), ("x", "=")), ("rows", "a", (), ("x", "=", 1, 1)),
+    ("rows", "a", (), ["x", "=", 1]), ("rows", "a", (), ("x", "==", 1)), ("rows", "a", (), ("x", "<=", 1)),
+    ("rows", "a", (), ("x", "<", None)), ("rows", "a", (), ("x", ">", None)), ("rows", "a", (), ("x", "=", True)),
+    ("rows", "a", (), ("x", "=", 10 ** 11)), ("rows", "a", (), ("x", "=", "a b")), ("rows", "a", (), ("X", "=", 1)),
+    ("rows", "a", (), (1, "=", 1)), ("rows", "a", (), ("x", None, 1)), ("rows", "a", (), ("x", ("=",), 1)),
+    ("rows", "a", (), ("x", "=", "abcdefghijklm")), ("rows", "a", (), ("x", "", 1)), ("rows", "a", (), True),
+    ("rows", "a", (), ("x", [], 1)), ("rows", "a", (), ("x", "=", ())), ("rows", "a", (), "x = 1"),
+    ("pair",), ("pair", "a", "x"), ("pair", "a", "x", "b", "c"), ("pair", "a", "x", None), ("pair", "a", 1, "b"),
+    ("pair", "A", "x", "b"), ("pair", "a", "x", ""), ("pair", "a", ("x",), "b"), ["pair", "a", "x", "b"],
+    ("count",), ("count", "a"), ("count", "a", "x", "y"), ("count", "a", None), ("count", "a", "abcdefg"),
+    ("count", "a", ("x",)), ("count", "a", "-"), ("count", "", "x"),
+    ("sum", "a", "x"), ("sum", "a", "x", "y", "z"), ("sum", "a", "x", None), ("sum", "a", "x", "Y"), ("sum",),
+    ("ROWS", "a", (), None), ("row", "a", (), None), ("max", "a", "x"), (None, "a", "x"), (["rows"], "a", (), None),
+    (("rows",), "a", (), None), (True, "a", "x"), "count a x", "rows a -", ("unfit",), ({}, "a", "x"), [], ["rows"],
+)
+
+
+def any_view(chance, schema):
+    """A view by this schema, which has a table with a column."""
+    table, columns = chance.choice([part for part in schema if part[1]])
+    names, ints = [name for name, _ in columns], [name for name, kind in columns if kind == "int"]
+    word = chance.choice(("rows", "rows", "pair", "count", "sum") if ints else ("rows", "count"))
+    if word == "rows":
+        column, kind = chance.choice(columns)
+        value = any_value(chance, kind)
+        sign = "=" if value is None else chance.choice("<=>")
+        condition = chance.choice((None, (column, sign, value), (column, sign, value)))
+        return ("rows", table, tuple(chance.sample(names, chance.randint(0, len(names)))), condition)
+    if word == "pair":
+        return ("pair", table, chance.choice(ints), chance.choice(schema)[0])
+    if word == "count":
+        return ("count", table, chance.choice(names))
+    return ("sum", table, chance.choice(ints), chance.choice(names))

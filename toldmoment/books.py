@@ -122,7 +122,7 @@ def chain_in(texts, last):
             records.append(words)
             words = ()
         place = part[0]
-    if len(words) > 0 or not all([is_record(record) for record in records]):
+    if len(words) > 0 or any([len(record) > MOST_WORDS for record in records]):
         raise NoBook(None)
     return tuple(places[::-1]), tuple(records[::-1])
 
@@ -187,6 +187,8 @@ def part_in(text):
     """Where the block ahead of this one is, "new" or "on", and the words; () of what is no block of a record."""
     words = words_in(text)
     if len(words) < 2 or words[1] not in ("new", "on"):
+        return ()
+    if not all([1 <= len(word) <= MOST_WORD_SIGNS for word in words[2:]]):
         return ()
     before = integer_in(words[0])
     return () if before is None else (before, *words[1:])

@@ -53,6 +53,13 @@ def is_letter(value, many):
     return word == "deal" and are_letter_changes(value[4], partition, many)
 
 
+def is_old(value, many):
+    """Whether value tells that the letters of a partition, of so many, are gone up to some moment."""
+    if not isinstance(value, tuple) or len(value) != 3 or value[0] != "old":
+        return False
+    return is_partition(value[1], many) and is_moment(value[2])
+
+
 def are_letter_changes(value, partition, many):
     """Whether value is at least one change, each of a key of this partition."""
     if not are_changes(value) or len(value) == 0:
