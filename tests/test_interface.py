@@ -5,8 +5,12 @@ import inspect
 import unittest
 
 from toldmoment.books import Book
+from toldmoment.consumers import joined
+from toldmoment.deltas import Kept
+from toldmoment.desk import Desk
 from toldmoment.disks import Disk
 from toldmoment.inboxes import Inbox
+from toldmoment.rig import Rig
 from toldmoment.source import founded
 
 FUNCTIONS = {
@@ -54,6 +58,29 @@ FUNCTIONS = {
     "toldmoment.source": {
         "founded": ["disk", "partitions"],
     },
+    "toldmoment.copies": {
+        "counts": ["chunks", "letter"],
+        "lacking": ["chunks"],
+        "copied": ["chunks", "entries"],
+    },
+    "toldmoment.views": {
+        "check_view": ["schema", "view"],
+        "viewed": ["schema", "state", "view"],
+        "view_columns": ["schema", "view"],
+        "touches": ["schema", "view", "table"],
+        "view_text": ["view"],
+        "view_in": ["text"],
+    },
+    "toldmoment.consumers": {
+        "joined": ["disk", "partitions", "edition", "views"],
+    },
+    "toldmoment.scripts": {
+        "played": ["text"],
+    },
+    "toldmoment.journals": {
+        "journal": ["desk"],
+        "read_journal": ["text"],
+    },
 }
 
 # Of each class: its file, how it is called, its methods, and what each of its objects has.
@@ -69,10 +96,24 @@ CLASSES = {
         "deal": ["changes"], "step": ["step"], "rows": ["edition", "table"], "letters": ["partition", "moment"],
         "compact": ["moment"], "chunk": ["low", "high"], "chunk_row": ["chunk"], "chunk_end": ["chunk"],
     }, ["partitions", "moment", "edition", "first", "schema", "state", "steps", "entries"]),
+    "Kept": ("toldmoment.deltas", ["schema", "state", "view"], {
+        "rows": ["key"], "change": ["key", "rows"], "changes": ["some"], "__eq__": ["other"],
+    }, ["schema", "view", "tells"]),
+    "Consumer": ("toldmoment.consumers", ["disk"], {
+        "hear": ["letter"], "asks": [], "tables": [], "move": ["edition", "views"],
+    }, ["partitions", "edition", "views", "moment", "is_copying"]),
+    "Rig": ("toldmoment.rig", ["partitions"], {
+        "do": ["deed"], "shown": ["who"], "due": ["who"], "check": [], "settle": [],
+    }, ["entries", "bag", "down"]),
+    "Desk": ("toldmoment.desk", ["partitions"], {
+        "say": ["line"], "undo": [], "redo": [], "tried": ["lines"], "copy": [], "__eq__": ["other"],
+    }, ["rig", "lines", "answers", "partitions"]),
 }
 
 MADE = {
     "Disk": Disk, "Book": lambda: Book(Disk()), "Inbox": lambda: Inbox(1, 0), "Source": lambda: founded(Disk(), 1),
+    "Kept": lambda: Kept((("a", (("x", "int"),)),), (("a", ()),), ("count", "a", "x")),
+    "Consumer": lambda: joined(Disk(), 1, 0, (("count", "a", "x"),)), "Rig": lambda: Rig(1), "Desk": lambda: Desk(1),
 }
 DEFAULTS = {("Disk", "blocks"): (), ("Disk", "left"): None}
 
