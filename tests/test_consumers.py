@@ -104,7 +104,9 @@ NO_CONSUMERS = (
     (("consumer", "1", "-1", "none"), VIEW), (("consumer", "1", "x", "none"), VIEW), (("consumer", "01", "1", "none"), VIEW),
     (("consumer", "1", "01", "none"), VIEW), (("consumer", "1", "1", "None"), VIEW), (("consumer", "1", "1", "-1"), VIEW),
     (("consumer", "1", "1", "09"), VIEW, PAST), (("consumer", "none", "1", "none"), VIEW), (("consumer", "1", "none", "none"), VIEW),
-    (("consumer", "1", "1", "none"), ("view",)), (("consumer", "1", "1", "none"), ("view", "count", "a")),
+    (("consumer", "1", "1", "none"), ("view",)), (("consumer", "1", "1", "none"), ("view", "rows")), (("consumer", "1", "1", "-1"), VIEW, PAST),
+    (("consumer", "1", "1", "none"), ("view", "rows", "a")), (("source", "1", "1", "none"), VIEW), (("consumer", "1", "1", "none"), ("past", *VIEW[1:])),
+    (("consumer", "1", "1", "none"), ("view", "count", "a")),
     (("consumer", "1", "1", "none"), *[VIEW] * 5), (("consumer", "1", "1", "none"), VIEW, ("views",)),
     (("consumer", "1", "1", "none"), ("view", "rows", "a", "-")), (("consumer", "1", "1", "none"), ("view", "rows", "a", "x")),
     (("consumer", "1", "1", "none"), ("view", "rows", "a", "2", "x")), (("consumer", "1", "1", "none"), ("view", "rows", "a", "-1", "x")),
@@ -211,12 +213,13 @@ class Copying(Case):
         consumer, _ = run.joined(1, VIEWS)
         consumer.hear(run.chunk(1, 999999, 2))
         run.lead(deal(put(1)), deal(put(2, "x", 0)), deal(put(1, "y", 0)))
+        run.lead(deal(("drop", "staff", 1)), ("step", ("name", "staff", "pay", "wage")))
         for letter in (*run.source.letters(0, 3), *run.source.letters(1, 3)):
             consumer.hear(letter)
-        self.is_at(consumer, None, True, (("keys", 3, 999999), ("letters", 0, 6), ("letters", 1, 6)))
+        self.is_at(consumer, None, True, (("keys", 3, 999999), ("letters", 0, 8), ("letters", 1, 8)))
         rest = ("chunk", (3, 4), (3, 999999), (MAKE,), ((3, (("staff", ("ann", 3)),)),))
         consumer.hear(rest)
-        self.is_at(consumer, 6, False, (("letters", 0, 6), ("letters", 1, 6)))
+        self.is_at(consumer, 8, False, (("letters", 0, 8), ("letters", 1, 8)))
         shows_what_is_due(self, consumer, run.story)
 
     def test_chunks_and_olds_that_change_nothing(self):
@@ -229,6 +232,30 @@ class Copying(Case):
         for letter in (low, run.chunk(), ("old", 0, 0), ("old", 1, 4), ("old", 0, 3), *run.source.letters(0, 0), ("mark", 1, 4, 4)):
             consumer.hear(letter)
             self.same((told_of(consumer), disk.blocks), (ahead, blocks))
+
+    def test_a_chunk_of_a_later_moment_changes_nothing_where_none_is_copied(self):
+        run = self.source()
+        consumer, _ = run.joined(1, VIEWS)
+        run.settles(consumer)
+        run.lead(deal(put(1)), deal(put(2)), deal(put(2, "z", 9)))
+        consumer.hear(run.source.letters(0, 3)[0])
+        ahead = told_of(consumer)
+        self.same(ahead[5], (("letters", 0, 4), ("letters", 1, 3)))
+        consumer.hear(run.chunk())
+        self.same(told_of(consumer), ahead)
+        run.settles(consumer)
+        shows_what_is_due(self, consumer, run.story)
+
+    def test_letters_up_to_where_it_stands_tell_nothing_new(self):
+        run = self.source()
+        consumer, _ = run.joined(1, VIEWS)
+        run.settles(consumer)
+        run.lead(deal(put(1)), deal(put(2)))
+        run.settles(consumer)
+        ahead = told_of(consumer)
+        for letter in (("deal", 0, 4, 3, (put(1, "other", 1),)), ("step", 0, 4, 3, MAKE), ("mark", 1, 5, 3), ("mark", 0, 4, 0)):
+            consumer.hear(letter)
+            self.same(told_of(consumer), ahead)
 
     def test_it_copies_anew_behind_an_old_and_shows_what_it_showed(self):
         run = self.source()

@@ -140,6 +140,12 @@ class Copied(Case):
         deal = ("deal", (("put", "a", 1, (1,)), ("put", "a", 2, (7,))))
         self.same(copied((chunk(2, 2, 1, 1), right), (deal,))[3], (("a", ((1, (1,)), (2, (8,)))),))
 
+    def test_of_each_key_its_chunk_alone_tells_what_lay_there(self):
+        # No source tells this: its chunk would have found the key 2.
+        deal = ("deal", (("put", "a", 1, (1,)), ("put", "a", 2, (7,))))
+        self.same(copied((chunk(2, 2, 1, 1), chunk(3, 3, 2, 999999)), (deal,))[3], (("a", ((1, (1,)),)),))
+        self.same(copied((chunk(2, 3, 1, 1), chunk(2, 2, 2, 999999)), (deal,))[3], (("a", ((1, (1,)), (2, (7,)))),))
+
     def test_steps_lead_what_was_read_ahead_of_them_alone(self):
         turn, cut = ("turn", "a", "x", "text", None, None), ("cut", "a", "x", None)
         rows = ((1, (("a", (5,)),)),)

@@ -171,6 +171,11 @@ class Equal(Case):
         two.changes(((2, (("a", None),)), (1, (("a", (5,)),))))
         self.assertTrue(one == two)
 
+    def test_two_of_other_schemas_without_rows(self):
+        one, two = (Kept((("a", columns),), (("a", ()),), ("count", "a", "x")) for columns in ((("x", "int"),), (("x", "int"), ("y", "int"))))
+        self.same((one.tells, one.view), (two.tells, two.view))
+        self.assertFalse(one == two)
+
     def test_two_of_one_state_change_each_for_itself(self):
         one, two = Kept(SCHEMA, STATE, PAIR), Kept(SCHEMA, STATE, PAIR)
         one.change(3, NO_ROWS)

@@ -451,6 +451,22 @@ class Coming(Led):
         self.same(rig.bag[1][1][2], (1, 3))
         self.same((rig.settle(), rig.do(("deal", ())), rig.shown(1)[0]), (3, 3, 2))
 
+    def test_falls_in_opening(self):
+        # No book needs mending between two deeds: what needs it is laid there by hand.
+        for who in (0, 1):
+            rig = Rig(1)
+            done(rig, ("step", MAKE), ("join", 1, (COUNT,)), ("answer", 1), ("hear", 1, 1))
+            machine = rig._machines[who]
+            machine.disk = Disk((*machine.disk.blocks, "", "torn"))
+            self.same((rig.do(("weaken", who, 0)), rig.down, rig.check(), rig.shown(1) is None), ("fallen", (who,), ("right",), who == 1))
+            self.same(done(rig, ("answer", 1), ("weaken", who, 9), ("up", who, ())), ["down", "down", "up"])
+            self.same((rig.down, rig.check(), rig.shown(1), len(rig.entries)), ((), ("right",), (1, ((),)), 1))
+            machine.disk = Disk((*machine.disk.blocks, "", "torn"))
+            self.same((rig.do(("weaken", who, 1)), rig.down), ("fallen", (who,)))
+            self.same((rig.settle(), rig.down, rig.check(), rig.shown(1)), (1, (), ("right",), (1, ((),))))
+            machine.disk = Disk((*machine.disk.blocks, "", "torn"))
+            self.same((rig.do(("weaken", who, 2)), rig.down, rig.check()), ("up", (), ("right",)))
+
     def test_how_many_writes_a_weak_machine_does(self):
         for who in (0, 1):
             answers = []
@@ -474,6 +490,9 @@ class Checked(Led):
 
         def tables(self):
             return self.told
+
+        def hear(self, letter):
+            pass
 
     class Tells:
         def __init__(self, source):
@@ -513,6 +532,37 @@ class Checked(Led):
             self.same(rig.check(), ("wrong", 2))
             rig._machines[1].runs = self.Shows(2, ())
             self.same(rig.check(), ("wrong", 1))
+
+    def test_one_that_goes_back(self):
+        early, late = self.Shows(1, ((),)), self.Shows(2, (((1, 1),),))
+        rig = self.rig()
+        rig._machines[1].runs = early
+        self.same((rig.shown(1), rig.due(1), rig.check()), ((1, ((),)), (1, ((),)), ("wrong", 1)))
+        rig = Rig(1)
+        done(rig, ("step", MAKE), ("join", 1, (COUNT,)), ("deal", (put(1),)), ("send", 0, 0))
+        rig._machines[1].runs = early
+        self.same((rig.check(), rig.do(("hear", 1, 1)), rig.check()), (("right",), None, ("right",)))
+        rig._machines[1].runs = late
+        self.same((rig.check(), rig.do(("hear", 1, 1)), rig.check()), (("right",), None, ("right",)))
+        rig._machines[1].runs = early
+        for _ in range(2):
+            self.same((rig.check(), rig.do(("hear", 1, 1)), rig.check()), (("wrong", 1), None, ("wrong", 1)))
+        rig._machines[1].runs = self.Shows(None, ())
+        self.same((rig.check(), rig.do(("hear", 1, 1)), rig.check()), (("wrong", 1), None, ("wrong", 1)))
+
+    def test_one_that_goes_back_from_where_it_came_up(self):
+        came = 0
+        for left in range(20):
+            rig = Rig(1)
+            done(rig, ("step", MAKE), ("join", 1, (COUNT,)), ("answer", 1), ("hear", 1, 1), ("deal", (put(1),)), ("send", 0, 1),
+                 ("weaken", 1, left))
+            if rig.do(("hear", 1, 2)) == "fallen":
+                rig.do(("up", 1, ("all",) * 20))
+                if rig.shown(1)[0] == 2:
+                    came += 1
+                    rig._machines[1].runs = self.Shows(1, ((),))
+                    self.same((rig.due(1), rig.check()), ((1, ((),)), ("wrong", 1)))
+        self.assertGreater(came, 0)
 
     def test_one_that_showed_nothing_yet(self):
         rig = Rig(1)

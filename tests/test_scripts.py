@@ -2,8 +2,11 @@
 
 from samples import ANYTHING, Case, CHANGE_TEXTS, STEP_TEXTS, VIEW_TEXTS, chances
 from toldmoment.desk import Desk
-from toldmoment.errors import BadJournal, BadLine, BadLines, BadNumber, BadScript
+from toldmoment.errors import BadJournal, BadLine, BadLines, BadNumber, BadScript, MomentError
 from toldmoment.journals import read_journal
+from toldmoment.lines import answer_text
+from toldmoment.rig import Rig
+from toldmoment.schemas import step_in
 from toldmoment.scripts import played
 
 MAKE = "step make s who text pay int"
@@ -96,6 +99,27 @@ class Answers(Case):
             ("1", "1", "2", "up", "right", "2", "3 4", "ok", "fallen", "none", "down", "down", "down", "? Awake", "? BadFates", "up", "? Awake",
              "1 | - | - | -", "ok", "2 | 5 1 | 1 'ann | 'ann 5", "up", "fallen", "down", "down", "down", "down", "down", "down", "down", "down",
              "down", "right", "1 2 3 4", "up", "? NoOne", "? BadNumber", "? BadNumber", "? NoOne"))
+
+    def test_fates_are_handed_on(self):
+        told = set()
+        for left in range(1, 7):
+            for fates in ((), ("none", "none"), ("all", "all"), ("none", "all"), ("all", "none"), (3, 4), (999, "none"), ("none", 999)):
+                rig = Rig(1)
+                deeds = [("step", step_in(MAKE[5:])), ("weaken", 0, left), ("deal", ()), ("up", 0, fates), ("deal", ())]
+                answers = [self.done(rig, deed) for deed in deeds]
+                line = " ".join(["up 0", *[str(fate) for fate in fates]])
+                self.plays((MAKE, f"weaken 0 {left}", "deal", line, "deal"), answers)
+                told.add(tuple(answers))
+        self.assertGreaterEqual(len(told), 3)
+
+    def done(self, rig, deed):
+        try:
+            return str(rig.do(deed))
+        except MomentError as error:
+            return "? " + type(error).__name__
+
+    def test_a_rig_that_is_not_right(self):
+        self.same([answer_text("check", told) for told in (("right",), ("wrong", 0), ("wrong", 12))], ["right", "wrong 0", "wrong 12"])
 
     def test_settling(self):
         self.plays(("settle", "check", MAKE, "settle", "join 0 count s pay", "join 1 rows s who", "settle", "settle", "show 1", "show 2", "bag"),

@@ -5,7 +5,7 @@ from toldmoment.copies import copy_told, greatest_of, is_chunk, is_next, key_lac
 from toldmoment.errors import (
     BadLetter, BadNumber, BadRecord, BadViews, MomentError, NoConsumer, NoEdition, There, Unready,
 )
-from toldmoment.forms import GREATEST_KEY, integer_in, number_in
+from toldmoment.forms import GREATEST_KEY, number_in
 from toldmoment.histories import want_edition
 from toldmoment.inboxes import Inbox
 from toldmoment.letters import is_letter, is_many, is_moment, is_old
@@ -89,6 +89,7 @@ class Consumer:
         self.views = tuple([view_stored(record) for record in views])
         want_views(self.views)
         self._stand = None if moment is None else stand_in(moment, others)
+        # Whatever was taken for something else is told otherwise.
         if not can_stand(self._stand) or records_of(self.partitions, self.edition, self.views, self._stand) != records:
             raise BadRecord(heading)
         self._stand_there(self._stand)
@@ -190,7 +191,7 @@ def view_record(view):
 def view_stored(record):
     """The view of which this is the record; None or some other view if it is no such record."""
     words = list(record[1:])
-    many = integer_in(words[2]) if words[:1] == ["rows"] and len(words) > 2 else None
+    many = number_in(words[2]) if len(words) > 2 else None
     if many is not None:
         names = words[3:3 + many]
         words = [*words[:2], ",".join(names) if len(names) > 0 else "-", *words[3 + many:]]
@@ -209,10 +210,9 @@ def parted(records):
 
 def heading_in(record):
     """The partitions, the edition and the moment, or None, that a consumer's first record tells."""
-    if len(record) != 4 or record[0] != HEADING:
+    if len(record) != 4:
         raise BadRecord(record)
-    partitions, edition = integer_in(record[1]), number_in(record[2])
-    moment = None if record[3] == NO_MOMENT else number_in(record[3])
-    if not is_many(partitions) or not is_moment(edition) or (moment is None and record[3] != NO_MOMENT):
+    partitions, edition, moment = [number_in(word) for word in record[1:]]
+    if not is_many(partitions) or not is_moment(edition):
         raise BadRecord(record)
     return partitions, edition, moment

@@ -82,9 +82,8 @@ def copy_told(chunks, told):
     reached = lows[0]
     lay_rows(tables, chunks, reached, reached)
     for moment, entry in told:
-        if moment - 1 > reached:
-            lay_rows(tables, chunks, reached + 1, moment - 1)
-            reached = moment - 1
+        lay_rows(tables, chunks, reached + 1, moment - 1)
+        reached = moment - 1
         if entry[0] == "step":
             steps = (*steps, entry[1])
             behind = stepped(schema, entry[1])

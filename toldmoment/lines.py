@@ -110,8 +110,6 @@ def answer_text(word, told):
         return NOTHING if told is None else shown_text(told)
     if word == "check":
         return " ".join([told[0], *[str(who) for who in told[1:]]])
-    if isinstance(told, str):
-        return told
     if isinstance(told, bool):
         return "yes" if told else "no"
     if isinstance(told, tuple):

@@ -18,7 +18,7 @@ class Machine:
         self.disk = disk
         # The Source or the Consumer; None while the machine is down.
         self.runs = runs
-        # The greatest moment that it showed.
+        # The greatest moment at which it was.
         self.greatest = None
 
     def is_down(self):
@@ -52,12 +52,13 @@ class Machine:
         return self.runs.moment, self.runs.tables()
 
     def note(self):
-        """Notes which moment is shown: it may not go back from there."""
-        if self.who != SOURCE and self.runs.moment is not None:
-            self.greatest = self.runs.moment if self.greatest is None else max(self.greatest, self.runs.moment)
+        """Notes the moment at which it is: it may not go back from there."""
+        moment = self.runs.moment
+        if moment is not None:
+            self.greatest = moment if self.greatest is None else max(self.greatest, moment)
 
     def has_gone_back(self):
-        """Whether it shows a moment below one that it showed, or none behind one."""
+        """Whether its moment is below one at which it was, or none behind one."""
         return self.greatest is not None and (self.runs.moment is None or self.runs.moment < self.greatest)
 
     def cut_disk(self, fates):
