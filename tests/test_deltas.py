@@ -241,7 +241,8 @@ class Refused(Case):
             (((0, NO_ROWS), (False, NO_ROWS)), BadKey, 0), (((True, 1), (False, 2)), BadKey, True),
             ((((1,), 1), ((True,), 2)), BadKey, (1,)), (((("a", [1]), 1), (("a", [True]), 2)), BadKey, ("a", [1])),
             ((([1], 1), ((1,), 2)), BadKey, [1]), (((1000000, 1), (1000001, 1)), BadKey, 1000000),
-            (((7, NO_ROWS), (8, ()), (9, [])), BadRows, ()),
+            (((7, NO_ROWS), (8, ()), (9, [])), BadRows, ()), (((0, 1), ([], 2)), BadKey, 0), ((([], 1), (0, 2)), BadKey, []),
+            ((((), 1), ("", 2), (None, 3)), BadKey, ()), ((("", 1), ((), 2)), BadKey, ""), ((((1, 2), 1), ((1,), 2)), BadKey, (1, 2)),
         ):
             self.refused(error, value, kept.changes, some)
             self.is_as_it_was(kept, PAIR)

@@ -11,7 +11,7 @@ from toldmoment.inboxes import Inbox
 from toldmoment.letters import is_letter, is_many, is_moment, is_old
 from toldmoment.stands import stand_at, stand_in
 from toldmoment.states import keys_of
-from toldmoment.views import is_view, shown_of, view_in, view_text
+from toldmoment.views import NO_NAMES, is_view, shown_of, view_in, view_text
 
 # The first words of a consumer's first record, and of those of its views.
 HEADING = "consumer"
@@ -194,7 +194,7 @@ def view_stored(record):
     many = number_in(words[2]) if len(words) > 2 else None
     if many is not None:
         names = words[3:3 + many]
-        words = [*words[:2], ",".join(names) if len(names) > 0 else "-", *words[3 + many:]]
+        words = [*words[:2], ",".join(names) if len(names) > 0 else NO_NAMES, *words[3 + many:]]
     return view_in(" ".join(words))
 
 

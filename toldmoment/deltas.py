@@ -22,7 +22,7 @@ class Kept:
         # What a view that adds up is told of, by values.
         self._groups = {}
         for key, rows in by_keys(state).items():
-            self._lay(key, rows)
+            self._take_rows(key, rows)
         self._tell()
 
     def __eq__(self, other):
@@ -39,7 +39,7 @@ class Kept:
     def change(self, key, rows):
         """Lets the key have just these rows."""
         self._want_rows(key, rows)
-        self._lay(key, dict(rows))
+        self._take_rows(key, dict(rows))
         self._tell()
 
     def changes(self, some):
@@ -51,7 +51,7 @@ class Kept:
         for key, rows in some:
             self._want_rows(key, rows)
         for key, rows in some:
-            self._lay(key, dict(rows))
+            self._take_rows(key, dict(rows))
         self._tell()
 
     def _want_rows(self, key, rows):
@@ -60,8 +60,8 @@ class Kept:
         if not is_key_rows(self.schema, rows):
             raise BadRows(rows)
 
-    def _lay(self, key, rows):
-        """Lays the key's rows, a dict by tables, and keeps what the view tells of them, and for their sake."""
+    def _take_rows(self, key, rows):
+        """Takes in the key's rows, a dict by tables, and keeps what the view tells of them, and for their sake."""
         if is_grouped(self.view):
             self._add(key, -1)
         for table, values in rows.items():
