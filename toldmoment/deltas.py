@@ -18,7 +18,7 @@ class Kept:
         self.view = view
         self._tables = {table: {} for table, _ in schema}
         # What a view of rows or pairs tells, by keys.
-        self._told = {}
+        self._told_rows = {}
         # What a view that adds up is told of, by values.
         self._groups = {}
         for key, rows in by_keys(state).items():
@@ -92,13 +92,13 @@ class Kept:
         """Lets go what the view told of the first table's row under this key, and puts in what it tells now."""
         row = row_told(self.schema, self._tables, self.view, key)
         if row is None:
-            self._told.pop(key, None)
+            self._told_rows.pop(key, None)
         else:
-            self._told[key] = row
+            self._told_rows[key] = row
 
     def _tell(self):
         """Tells what the view tells now."""
         if is_grouped(self.view):
             self.tells = groups_told(self._groups)
         else:
-            self.tells = tuple([self._told[key] for key in sorted(self._told)])
+            self.tells = tuple([self._told_rows[key] for key in sorted(self._told_rows)])
