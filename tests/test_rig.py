@@ -51,7 +51,8 @@ class Led(Case):
 
     def start(self, partitions):
         self.rig, self.partitions, self.story = Rig(partitions), partitions, Story()
-        self.editions, self.views, self.greatest, self.under_way, self.chunks = [None], [None], [None], None, 0
+        # Of each consumer the editions, with their views, that it may have: behind a move that fell two of them.
+        self.moved, self.greatest, self.under_way, self.chunks = [()], [None], None, 0
 
     def do(self, deed):
         """Does a deed, and looks at all that can be asked behind it; its answer, or the error."""
@@ -74,6 +75,8 @@ class Led(Case):
             self.same((rig.down, rig.bag), (tuple(sorted((*ahead[1], who))), ahead[0]))
             if word in ("deal", "step"):
                 self.under_way = deed
+            elif word == "move":
+                self.moved[who] = (*self.moved[who], deed[2:])
         elif answer == "down":
             self.same((rig.bag, rig.down, rig.entries), ahead)
         elif word in ("deal", "step"):
@@ -84,12 +87,11 @@ class Led(Case):
             if deed[1] == 0:
                 self.found()
         elif word == "join":
-            self.same(answer, len(self.views))
-            self.editions.append(deed[1])
-            self.views.append(deed[2])
+            self.same(answer, len(self.moved))
+            self.moved.append((deed[1:],))
             self.greatest.append(None)
         elif word == "move":
-            self.editions[deed[1]], self.views[deed[1]] = deed[2:]
+            self.moved[deed[1]] = (deed[2:],)
         elif word == "chunk":
             self.chunks = answer
 
@@ -100,7 +102,7 @@ class Led(Case):
         self.under_way = None
 
     def shows(self):
-        for who in range(1, len(self.views)):
+        for who in range(1, len(self.moved)):
             shown = self.rig.shown(who)
             self.same(self.rig.due(who), shown)
             if who in self.rig.down:
@@ -108,8 +110,9 @@ class Led(Case):
             elif shown is None:
                 self.assertIsNone(self.greatest[who])
             else:
-                schema, state = self.story.seen(shown[0], self.editions[who])
-                self.same(shown[1], shown_plainly(schema, state, self.views[who]))
+                due = [(shown_plainly(*self.story.seen(shown[0], edition), views), (edition, views)) for edition, views in self.moved[who]]
+                self.assertIn(repr(shown[1]), [repr(tables) for tables, _ in due])
+                self.moved[who] = tuple(moved for tables, moved in due if tables == shown[1])
                 self.assertGreaterEqual(shown[0], self.greatest[who] or 0)
                 self.greatest[who] = shown[0]
 
@@ -120,12 +123,12 @@ class Led(Case):
         self.same((self.rig.entries, self.rig.check(), self.rig.down), (self.story.entries, ("right",), ()))
         self.same(self.rig.bag[:len(bag)], bag)
         self.shows()
-        for who in range(1, len(self.views)):
-            shown = self.rig.shown(who)
-            self.assertEqual(shown and shown[0], self.story.moment if self.editions[who] <= self.story.editions[-1] else None)
+        for who in range(1, len(self.moved)):
+            shown, editions = self.rig.shown(who), [edition for edition, _ in self.moved[who]]
+            self.assertEqual(shown and shown[0], self.story.moment if min(editions) <= self.story.editions[-1] else None)
         bag = len(self.rig.bag)
         self.same((self.rig.settle(), self.rig.check()), (1, ("right",)))
-        self.assertEqual(len(self.rig.bag) > bag, len(self.views) > 1 and self.story.moment > 0)
+        self.assertEqual(len(self.rig.bag) > bag, len(self.moved) > 1 and self.story.moment > 0)
         return rounds
 
 
@@ -137,7 +140,7 @@ class Many(Led):
             self.start(chance.randint(1, 4))
             words = list(OFTEN)
             for _ in range(chance.randint(10, 70)):
-                many = len(self.views) - 1
+                many = len(self.moved) - 1
                 word = chance.choices(words, [OFTEN[word] for word in words])[0]
                 if (word == "join" and many == 3) or (word == "deal" and not self.story.schema):
                     word = "step"
