@@ -11,10 +11,14 @@ from toldmoment.errors import Fallen, MomentError, NoConsumer
 class ConsumerFalls(Case):
 
     def opened(self, disk, wanted, run):
-        """Opens a consumer that is one of these; opened once more it is the same, and nothing is written."""
+        """Opens a consumer that is one of these, or stands between them; opened once more it is the same, and nothing is written."""
         consumer = Consumer(disk)
         kept = kept_of(consumer)
-        self.assertIn(kept, wanted)
+        if kept not in wanted:
+            # It was found amid several moments of one deed.
+            self.assertIn(kept[:3], [one[:3] for one in wanted])
+            self.assertLess(-1 if wanted[0][3] is None else wanted[0][3], kept[3])
+            self.assertLess(kept[3], wanted[-1][3])
         shows_what_is_due(self, consumer, run.story)
         self.same(disk.waiting, ())
         again = Disk(disk.blocks, 0)

@@ -637,6 +637,29 @@ class Room(Case):
         self.assertGreater(raised, 0)
 
 
+    def test_what_was_done_ahead_of_no_room_stands(self):
+        for chance, partitions in zip(chances(3), (1, 2, 4)):
+            run = Run(self, chance, partitions, 0)
+            run.lead(("step", ("make", "a", ())))
+            consumer, disk = run.joined(1, (("rows", "a", (), None),))
+            run.settles(consumer)
+            for number in range(60):
+                run.lead(("deal", tuple(("put", "a", 1 + number * 12 + at, ()) for at in range(12))))
+            letters = [letter for partition in range(partitions) for letter in run.source.letters(partition, 1)]
+            with self.assertRaises(NoRoom) as caught:
+                for letter in letters[::-1]:
+                    consumer.hear(letter)
+            self.assertIsNone(caught.exception.value)
+            self.assertGreater(weight_at(run.story, consumer.moment + 1), 640)
+            shows_what_is_due(self, consumer, run.story)
+            self.same(kept_of(Consumer(Disk(disk.blocks, 0))), kept_of(consumer))
+            self.same(disk.waiting, ())
+            moment = consumer.moment
+            self.refused(NoRoom, None, consumer.hear, ("mark", 0, run.story.moment, run.story.moment))
+            self.assertEqual(consumer.moment, moment)
+            shows_what_is_due(self, consumer, run.story)
+
+
 class Keys(Case):
 
     def test_many_keys_by_chunks_of_a_few(self):

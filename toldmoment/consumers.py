@@ -19,6 +19,8 @@ VIEW = "view"
 # Stands in the first record of a consumer that stands at no moment.
 NO_MOMENT = "none"
 MOST_VIEWS = 4
+# What a moment tells of which no partition has a letter.
+NO_CHANGES = ("deal", ())
 
 
 def joined(disk, partitions, edition, views):
@@ -92,14 +94,14 @@ class Consumer:
         # Whatever was taken for something else is told otherwise.
         if not can_stand(self._stand) or records_of(self.partitions, self.edition, self.views, self._stand) != records:
             raise BadRecord(heading)
-        self._stand_there(self._stand)
+        self._stand_there(self._stand, None if moment is None else Inbox(self.partitions, moment))
 
-    def _stand_there(self, stand):
-        """Stands there, or nowhere, with nothing of a copy."""
+    def _stand_there(self, stand, inbox):
+        """Stands there, or nowhere, with the letters of this inbox, and with nothing of a copy."""
         self._stand = stand
-        self.is_copying = stand is None
+        self._inbox = inbox
         self._chunks = ()
-        self._inbox = None if stand is None else Inbox(self.partitions, stand.moment)
+        self.is_copying = stand is None
         self.moment = None
         if stand is not None and self.edition <= stand.edition:
             self.moment = stand.moment
@@ -129,26 +131,28 @@ class Consumer:
             self._inbox = None
 
     def _go_on(self):
-        """Stands at the moment up to which everything is known, unless the copy still lacks something."""
-        newest = self._inbox.newest()
-        ahead = self._copied(newest) if self.is_copying else self._stand
-        if ahead is None or (not self.is_copying and newest == ahead.moment):
-            return
-        stand = ahead.behind(newest, [entry for moment, entry in self._inbox.whole() if moment > ahead.moment])
-        # Nothing is shown that is not on the disk.
-        self._book.anew(records_of(self.partitions, self.edition, self.views, stand))
-        inbox = self._inbox
-        inbox.done(newest)
-        self._stand_there(stand)
-        self._inbox = inbox
+        """Does all moments that are whole, one behind another, unless the copy still lacks something."""
+        if self.is_copying:
+            if key_lacking(self._chunks) is not None or self._inbox.newest() < greatest_of(self._chunks):
+                return
+            self._keep(self._copied())
+        told = self._inbox.whole()
+        for moment, entry in told:
+            self._keep(self._stand.behind(moment, entry))
+        if self._inbox.newest() > self._stand.moment:
+            self._keep(self._stand.behind(self._inbox.newest(), NO_CHANGES))
 
-    def _copied(self, newest):
-        """Where the copy leads; None as long as keys or letters lack."""
-        if key_lacking(self._chunks) is not None or newest < greatest_of(self._chunks):
-            return None
+    def _copied(self):
+        """Where the copy leads, in which nothing lacks any more."""
         moment = greatest_of(self._chunks)
         steps, _, state = copy_told(self._chunks, [part for part in self._inbox.whole() if part[0] <= moment])
         return stand_at(moment, steps, state)
+
+    def _keep(self, stand):
+        """Stands there, as soon as that is on the disk: nothing is shown that is not."""
+        self._book.anew(records_of(self.partitions, self.edition, self.views, stand))
+        self._inbox.done(stand.moment)
+        self._stand_there(stand, self._inbox)
 
     def _want_ready(self):
         """Raises Unready while it shows nothing."""

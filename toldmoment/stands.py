@@ -22,15 +22,12 @@ class Stand:
         """The records that tell it, but for its moment."""
         return (*step_records(self.steps), *row_records(self.state))
 
-    def behind(self, moment, entries):
-        """Where one stands at this later moment, behind these entries, which are all that changed anything since."""
-        steps, editions, state = self.steps, self.editions, self.state
-        for entry in entries:
-            schema, state = entry_behind(editions[-1], state, entry)
-            if entry[0] == "step":
-                steps = (*steps, entry[1])
-                editions = (*editions, schema)
-        return Stand(moment, steps, editions, state)
+    def behind(self, moment, entry):
+        """Where one stands at this later moment, behind the entry, which is all that changed anything since."""
+        schema, state = entry_behind(self.editions[-1], self.state, entry)
+        if entry[0] == "step":
+            return Stand(moment, (*self.steps, entry[1]), (*self.editions, schema), state)
+        return Stand(moment, self.steps, self.editions, state)
 
 
 def stand_at(moment, steps, state):
