@@ -8,7 +8,7 @@ from samples import (
     any_view, chances,
 )
 from test_copies import ALL, CHUNKS, LEFT, NO_CHUNKS, RIGHT
-from test_interface import FUNCTIONS
+from test_interface import CLASSES, FUNCTIONS, MADE
 from test_scripts import ANN, JOIN, LINES, MAKE, NO_LINES
 from toldmoment.desk import Desk
 from toldmoment.errors import MomentError
@@ -104,3 +104,30 @@ class Handed(Case):
             # Some raise nothing, or nothing of what is specified.
             kinds = {str} if function.__name__ in ("view_in", "journal", "keys_of") else {str, tuple}
             self.assertEqual({type(one) for one in outcomes}, kinds, function.__name__)
+
+    def test_objects_of_the_classes_are_refused_like_any_value(self):
+        # Parameters with these names are such objects; of chunks and entries of unlike sources nothing is specified.
+        objects = [make() for make in MADE.values()]
+        refused = {}
+        for chance in chances(60):
+            samples = several(chance)
+            calls = [(function, names) for function, names in each_function() if function.__name__ not in ("copied", "journal")]
+            for name, (_, _, methods, _) in CLASSES.items():
+                made = MADE[name]()
+                calls += [(getattr(made, method), names) for method, names in methods.items() if names and method != "__eq__"]
+            for function, names in calls:
+                arguments = [chance.choice(samples.get(parameter, (1, ()))) for parameter in names]
+                at = chance.randrange(len(names))
+                if function.__name__ in ("keys_of", "row_in", "key_rows"):
+                    arguments[0], at = samples["state"][0], len(names) - 1
+                    if at == 0:
+                        continue
+                value = chance.choice(objects)
+                for _ in range(chance.choice((0, 1, 2, 9))):
+                    value = chance.choice(((value,), (value, 1), (1, value), [value], ("put", value), ("old", 0, value), ("up", 0, value)))
+                arguments[at] = value
+                try:
+                    function(*arguments)
+                except MomentError as error:
+                    refused[type(error)] = refused.get(type(error), 0) + 1
+        self.assertGreater(len(refused), 20)
