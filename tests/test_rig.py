@@ -495,7 +495,8 @@ class Checked(Led):
             return self.told
 
         def hear(self, letter):
-            pass
+            if letter[0] == "deal":
+                raise NoRoom(None)
 
     class Tells:
         def __init__(self, source):
@@ -552,6 +553,32 @@ class Checked(Led):
             self.same((rig.check(), rig.do(("hear", 1, 1)), rig.check()), (("wrong", 1), None, ("wrong", 1)))
         rig._machines[1].runs = self.Shows(None, ())
         self.same((rig.check(), rig.do(("hear", 1, 1)), rig.check()), (("wrong", 1), None, ("wrong", 1)))
+
+    def test_one_that_goes_back_from_where_no_room_left_it(self):
+        early, late = self.Shows(1, ((),)), self.Shows(2, (((1, 1),),))
+        rig = Rig(1)
+        done(rig, ("step", MAKE), ("join", 1, (COUNT,)), ("deal", (put(1),)), ("send", 0, 1))
+        rig._machines[1].runs = late
+        self.refused(NoRoom, None, rig.do, ("hear", 1, 1))
+        rig._machines[1].runs = early
+        self.same((rig.shown(1), rig.due(1), rig.check()), ((1, ((),)), (1, ((),)), ("wrong", 1)))
+
+    def test_no_room_passes_on_out_of_settle(self):
+        rig = Rig(1)
+        rig.do(("step", ("make", "s", ())))
+        rig.do(("join", 1, (("rows", "s", (), None),)))
+        rig.settle()
+        for number in range(60):
+            rig.do(("deal", tuple(("put", "s", 1 + number * 12 + at, ()) for at in range(12))))
+        bag = rig.bag
+        for _ in range(2):
+            self.refused(NoRoom, None, rig.settle)
+            self.same((rig.check(), rig.down, rig.bag[:len(bag)]), (("right",), (), bag))
+            self.assertGreater(rig.shown(1)[0], 100 // 12)
+        moment = rig.shown(1)[0]
+        numbers = rig.do(("answer", 1))
+        self.refused(NoRoom, None, rig.do, ("hear", 1, numbers[0]))
+        self.same((rig.check(), rig.shown(1)[0]), (("right",), moment))
 
     def test_one_that_goes_back_from_where_it_came_up(self):
         came = 0

@@ -2,7 +2,7 @@
 
 from toldmoment.consumers import Consumer
 from toldmoment.disks import Disk
-from toldmoment.errors import Fallen
+from toldmoment.errors import Fallen, NoRoom
 from toldmoment.forms import is_integer
 from toldmoment.source import Source
 
@@ -38,7 +38,12 @@ class Machine:
 
     def hear(self, letter):
         """Lets the consumer hear the letter."""
-        self.runs.hear(letter)
+        try:
+            self.runs.hear(letter)
+        except NoRoom:
+            # What was done ahead of it stands, and was shown.
+            self.note()
+            raise
         self.note()
 
     def fall(self):

@@ -130,6 +130,8 @@ class Rig:
         """What runs on the source's machine."""
         return self._machines[SOURCE].runs
 
+    # From here on: what is done, and answered, by the words of the deeds.
+
     def _enter(self, deed):
         """A deal or a step: the deed has the form of the entry."""
         moment = self._source().deal(deed[1]) if deed[0] == "deal" else self._source().step(deed[1])
@@ -181,6 +183,8 @@ class Rig:
         if not are_fates(fates):
             raise BadFates(fates)
         return self._open(machine, machine.cut_disk(fates))
+
+    # And what several of these need.
 
     def _open(self, machine, disk):
         """Opens the machine anew on this disk; "up", or "fallen"."""
