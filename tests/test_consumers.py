@@ -117,6 +117,7 @@ NO_CONSUMERS = (
     (HEAD, VIEW, ("past", "gone", "a")), (HEAD, VIEW, PAST, PAST), (HEAD, VIEW, PAST, ("row", "b", "1", "1")), (HEAD, PAST, VIEW),
     (HEAD, VIEW, PAST, ("row", "a", "1")), (HEAD, VIEW, PAST, ("row", "a", "1", "'x")), (HEAD, VIEW, ("row", "a", "1", "1"), PAST),
     (HEAD, VIEW, PAST, ("row", "a", "2", "1"), ("row", "a", "1", "1")), (HEAD, VIEW, PAST, ()), (HEAD, VIEW, PAST, ("deal",)),
+    (("consumer", "1", "1", "2"), VIEW, PAST, *[("row", "a", str(key), "1") for key in range(1, 14)]),
     (HEAD, VIEW, PAST, ("row", "a", "1", "1"), VIEW), (("source", "0", "0"),), (HEAD, VIEW, PAST, HEAD),
 )
 
@@ -137,6 +138,16 @@ class NoConsumerThere(Case):
         for records in NO_CONSUMERS:
             with self.subTest(records):
                 self.is_none(records)
+
+    def test_records_that_a_consumer_can_have_written(self):
+        for records, moment in (
+            ((("consumer", "1", "1", "1"), VIEW, PAST), 1), ((("consumer", "1", "0", "0"), VIEW), 0), ((("consumer", "1", "1", "none"), VIEW), None),
+            ((("consumer", "1", "1", "2"), VIEW, PAST, *[("row", "a", str(key), "1") for key in range(1, 13)]), 2),
+            ((("consumer", "1", "1", "3"), VIEW, PAST, *[("row", "a", str(key), "1") for key in range(1, 14)]), 3),
+        ):
+            disk = Disk()
+            Book(disk).anew(records)
+            self.same(Consumer(Disk(disk.blocks, 0)).moment, moment)
 
     def test_disks_without_records(self):
         empty = Disk()

@@ -166,6 +166,21 @@ NO_SOURCES = (
     (("source", "0", "0"), ("step", *PAST[1:]), ("deal", "put", "a", "1", "5")), (("source", "0", "0"), ("deal",), ()),
     (("source", "0", "0"), ("deal",), ("row", "a", "1")), (("source", "0", "0"), ("deal",), ("deal", ";")),
     (("consumer", "1", "0", "none"), ("view", "count", "a", "x")),
+    # No table is there behind the last step, of which all partitions heard at one moment.
+    (("source", "9", "2", "3"), PAST, ("past", "gone", "a")), (("source", "9", "1", "1"), PAST, ("past", "gone", "a")),
+    (("source", "3", "0", "1"),), (("source", "3", "3", "3"),),
+    # Thirteen keys need two deals.
+    (("source", "2", "2"), PAST, *[("row", "a", str(key), "5", "'x") for key in range(1, 14)]),
+    (("source", "2", "2", "2"), PAST, *[("row", "a", str(key), "5", "'x") for key in range(1, 14)]),
+    (("source", "9", "2", "9"), PAST, *[("row", "a", str(key), "5", "'x") for key in range(1, 27, 2)]),
+)
+# And such as one could have written.
+SOURCES = (
+    (("source", "0", "0"),), (("source", "3", "0", "0"),), (("source", "9", "3", "3"), PAST, ("past", "gone", "a")),
+    (("source", "2", "2"), PAST, *[("row", "a", str(key), "5", "'x") for key in range(1, 13)]),
+    (("source", "3", "3"), PAST, *[("row", "a", str(key), "5", "'x") for key in range(1, 14)]),
+    (("source", "3", "2", "3"), PAST, *[("row", "a", str(key), "5", "'x") for key in range(1, 25)]),
+    (("source", "9", "1", "2"), PAST, ("row", "a", "2", "none", "none")), (("source", "1", "1", "1", "1", "1"), PAST, ("deal",)),
 )
 
 
@@ -187,6 +202,14 @@ class NoSourceThere(Beside):
         for records in NO_SOURCES:
             with self.subTest(records):
                 self.is_none(records)
+
+    def test_records_that_a_source_can_have_written(self):
+        for records in SOURCES:
+            with self.subTest(records):
+                disk = Disk()
+                Book(disk).anew(records)
+                source = Source(Disk(disk.blocks, 0))
+                self.same((source.first, source.partitions), (int(records[0][1]), len(records[0]) - 2))
 
     def test_a_book_that_needs_mending_is_not_mended(self):
         disk = Disk()

@@ -11,6 +11,7 @@ from toldmoment.inboxes import Inbox
 from toldmoment.letters import is_letter, is_many, is_moment, is_old
 from toldmoment.stands import stand_at, stand_in
 from toldmoment.states import keys_of
+from toldmoment.stored import least_moment
 from toldmoment.views import NO_NAMES, is_view, shown_of, view_in, view_text
 
 # The first words of a consumer's first record, and of those of its views.
@@ -168,9 +169,7 @@ def want_views(value):
 
 def can_stand(stand):
     """Whether so many steps, and changes of its keys, can have led there."""
-    if stand is None:
-        return True
-    return stand.moment >= (stand.edition + 1 if len(keys_of(stand.state)) > 0 else stand.edition)
+    return stand is None or stand.moment >= least_moment(stand.edition, keys_of(stand.state))
 
 
 # From here on: how a consumer lies in its book.

@@ -11,7 +11,7 @@ from toldmoment.readings import Reading
 from toldmoment.schemas import names_of
 from toldmoment.states import keys_of
 from toldmoment.stored import (
-    base_stored, entries_stored, entry_record, entry_records, is_entry_record, row_records, step_records,
+    base_stored, entries_stored, entry_record, entry_records, is_entry_record, least_moment, row_records, step_records,
 )
 
 # The first word of the first record of a source's book.
@@ -108,9 +108,11 @@ class Source:
         """Stands where a book's records lead; some error if no source keeps such records."""
         ahead, later = parted(records)
         self.steps, self._editions, state = base_stored(ahead[1:])
-        self.first, self._lasts = heading_in(ahead[0], len(self.steps), keys_of(state))
+        self.first, self._lasts = heading_in(ahead[0])
         self.partitions = len(self._lasts)
         self._base = (self._editions[-1], state)
+        if not can_lead(self.first, self._lasts, len(self.steps), self._editions[-1], keys_of(state)):
+            raise BadRecord(ahead[0])
         self.schema, self.state = self._base
         self.moment, self.edition, self.entries = self.first, len(self.steps), ()
         for entry in entries_stored(later):
@@ -164,22 +166,26 @@ def parted(records):
     return records[:many], records[many:]
 
 
-def heading_in(record, many_steps, keys):
-    """What the first record of a source tells: its first moment, and each partition's last one up to there.
-
-    BadRecord unless so many steps, and changes of these keys, can have led there.
-    """
+def heading_in(record):
+    """What the first record of a source tells: its first moment, and each partition's last one up to there."""
     numbers = [integer_in(word) for word in record[1:]]
     if record[:1] != (HEADING,) or None in numbers or not is_many(len(numbers) - 1):
         raise BadRecord(record)
-    first, lasts = numbers[0], tuple(numbers[1:])
-    for partition, last in enumerate(lasts):
-        # A partition hears of each step, and of some deal if it has keys.
-        has_keys = any([partition_by(key, len(lasts)) == partition for key in keys])
-        least = many_steps + 1 if has_keys else many_steps
-        if not least <= last <= first or (many_steps == 0 and last > 0):
-            raise BadRecord(record)
-    return first, lasts
+    return numbers[0], tuple(numbers[1:])
+
+
+def can_lead(first, lasts, many_steps, schema, keys):
+    """Whether so many steps, and changes of these keys, can have led to this schema at the first moment.
+
+    Each partition has heard of all steps, and of its own keys. Where no table is, nothing was changed since the last
+    step, and without a step nothing at all.
+    """
+    if first < least_moment(many_steps, keys) or (len(schema) == 0 and len(set(lasts)) > 1):
+        return False
+    if many_steps == 0 and lasts[0] != 0:
+        return False
+    heard = [[key for key in keys if partition_by(key, len(lasts)) == partition] for partition in range(len(lasts))]
+    return all([least_moment(many_steps, its) <= last <= first for its, last in zip(heard, lasts)])
 
 
 def last_moment(letters, before):

@@ -1,7 +1,7 @@
 """How steps, rows and entries lie in a book: a record each, the words of its text behind one that tells what it is."""
 
 from toldmoment.errors import BadRecords
-from toldmoment.forms import is_state
+from toldmoment.forms import MOST_CHANGES, is_state
 from toldmoment.schemas import change_in, entry_in, entry_text, step_in, step_text, stepped, value_text
 
 PAST = "past"
@@ -57,6 +57,11 @@ def base_stored(records):
     if not is_state(editions[-1], state) or (*step_records(steps), *row_records(state)) != records:
         raise BadRecords(records)
     return steps, editions, state
+
+
+def least_moment(many_steps, keys):
+    """The least moment at which so many steps can have been done, and rows can lie under these keys."""
+    return many_steps + (len(keys) + MOST_CHANGES - 1) // MOST_CHANGES
 
 
 def editions_of(steps):
